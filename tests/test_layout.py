@@ -1,0 +1,119 @@
+"""The interface stands where the document lists it; the files keep to the plain rules of the language."""
+
+import ast
+import importlib
+import inspect
+import unittest
+from pathlib import Path
+
+PACKAGE = Path(__file__).resolve().parent.parent / "tiewheel"
+
+INTERFACE = {
+    "webs.errors": [
+        "WebError", "NoWeb", "NoMating", "NoPainting", "NoEnds", "NoFlips", "NoLabels", "NoDeeds", "NoWheel", "NoJoin",
+        "NoShape", "NoLine", "TooFar", "NoText(at)", "NoHand(hand)", "NoNumber(number)", "TooWide(most)",
+        "Loud(cluster)", "NoBack(many)",
+    ],
+    "webs.webs": ["is_web(thing)", "across(web, hand)", "way_of(web, hand)", "ends_of(web)", "ways_at(web, post)"],
+    "webs.parts": ["parts_of(web)", "part_web(web, number)", "part_ways(web, number)"],
+    "matings.matings": [
+        "is_mating(web, thing)", "mate(web, mating, hand)", "corners_of(web, mating)", "third(web, mating, other)",
+    ],
+    "matings.strands": [
+        "strands_of(web, mating)", "is_cell(web, mating, number)", "strand_at(web, mating, hand)",
+        "over(web, mating, hand)", "shows_strand(web, mating, thing)",
+    ],
+    "paintings.paintings": [
+        "is_painting(web, thing)", "bared(web, painting)", "own_mating(web, painting)",
+        "is_painted(web, painting, hand)", "painted_ends(web, painting)", "owned(web, mating)",
+        "shows_owned(web, mating, thing)",
+    ],
+    "paintings.rounds": ["painted_by_couples(web, couples)"],
+    "paintings.fronts": [
+        "many_paintings(web, *, ends=None)", "painting_at(web, number, *, ends=None)",
+        "painting_number(web, painting, *, ends=None)", "all_paintings(web, *, ends=None)",
+        "painting_or_fronts(web, *, ends=None)", "shows_fronts(web, thing, *, ends=None)",
+    ],
+    "lines.lines": [
+        "lines_of(web, painting)", "line_at(web, painting, hand)", "ways_along(web, painting, number)",
+        "is_ring(web, painting, number)", "shows_line(web, painting, thing)",
+        "rings_of(web, painting, *, kind='both')",
+    ],
+    "lines.ties": [
+        "tied(web, painting, hand)", "ties_of(web, painting, *, kind='both')", "tie_at(web, painting, hand)",
+    ],
+    "clusters.crossed": [
+        "crossed(web, painting, mating)", "crossed_corners(web, painting, mating, number)",
+        "is_loud(web, painting, mating, number)",
+    ],
+    "clusters.clusters": [
+        "clusters(web, painting, mating)", "cluster_at(web, painting, mating, number)",
+        "chain(web, painting, mating, one, other)", "shows_chain(web, painting, mating, one, other, thing)",
+    ],
+}
+VALUES = {
+    "webs.webs": {"MOST_POSTS": 60, "HANDS": 4}, "matings.matings": {"MATINGS": 3},
+    "paintings.fronts": {"MOST_STATES": 4000, "MOST_TOLD": 400}, "lines.lines": {"BOTH": "both"},
+}
+
+
+class TestInterface(unittest.TestCase):
+    def test_all_stands_in_its_file_with_its_arguments(self):
+        for name, told in INTERFACE.items():
+            module = importlib.import_module("tiewheel." + name)
+            for text in told:
+                word = text.partition("(")[0]
+                thing = getattr(module, word)
+                self.assertEqual(thing.__module__, "tiewheel." + name)
+                self.assertEqual(thing.__name__, word)
+                if "(" in text:
+                    self.assertEqual(word + str(inspect.signature(thing)), text)
+
+    def test_values(self):
+        for name, told in VALUES.items():
+            module = importlib.import_module("tiewheel." + name)
+            for word, worth in told.items():
+                self.assertEqual(repr(getattr(module, word)), repr(worth))
+
+
+class TestFiles(unittest.TestCase):
+    def files(self):
+        found = [path for path in PACKAGE.rglob("*") if "__pycache__" not in path.parts]
+        self.assertTrue(all(path.is_dir() or path.suffix == ".py" for path in found))
+        return [path for path in found if path.is_file()]
+
+    def test_sizes_and_characters(self):
+        for path in self.files():
+            text = path.read_text(encoding="utf-8")
+            rows = text.splitlines()
+            self.assertLess(len(rows), 400, path)
+            self.assertTrue(all(len(row) <= 120 for row in rows), path)
+            self.assertTrue(all(sign == "\n" or " " <= sign <= "~" for sign in text), path)
+            for node in ast.walk(ast.parse(text)):
+                if isinstance(node, ast.FunctionDef):
+                    self.assertLessEqual(node.end_lineno - node.lineno + 1, 40, (path, node.name))
+
+    def test_each_folder_has_an_init(self):
+        for folder in {path.parent for path in self.files()}:
+            self.assertTrue((folder / "__init__.py").is_file(), folder)
+
+    def test_imports_are_of_the_package_by_full_names(self):
+        for path in self.files():
+            for node in ast.walk(ast.parse(path.read_text(encoding="utf-8"))):
+                self.assertNotIsInstance(node, ast.Import)
+                if isinstance(node, ast.ImportFrom):
+                    self.assertEqual(node.level, 0)
+                    self.assertTrue(node.module.startswith("tiewheel."), (path, node.module))
+                    self.assertTrue((PACKAGE.parent / (node.module.replace(".", "/") + ".py")).is_file())
+
+    def test_no_file_keeps_anything_that_can_change(self):
+        for path in self.files():
+            for node in ast.parse(path.read_text(encoding="utf-8")).body:
+                kinds = (ast.Expr, ast.ImportFrom, ast.FunctionDef, ast.ClassDef, ast.Assign)
+                self.assertIsInstance(node, kinds, path)
+                if isinstance(node, ast.Assign):
+                    self.assertIsInstance(node.value, (ast.Constant, ast.Tuple), path)
+
+
+if __name__ == "__main__":
+    unittest.main()

@@ -1,0 +1,236 @@
+"""[1]: of anything; the order of refusals; what they bear; nothing handed in is changed."""
+
+import copy
+import unittest
+from itertools import combinations, permutations
+
+from support import (
+    ANYTHING, EMPTY, EIGHT, LOOP_AND_ENDS, alike, beside, plain_ends, plain_matings, plain_paintings, plain_strands,
+    spoiled,
+)
+from tiewheel.clusters import clusters, crossed
+from tiewheel.lines import lines, ties
+from tiewheel.matings import matings, strands
+from tiewheel.paintings import fronts, paintings, rounds
+from tiewheel.webs import parts, webs
+from tiewheel.webs.errors import NoEnds, NoHand, NoLine, NoMating, NoNumber, NoPainting, NoWeb
+
+WEB = beside(LOOP_AND_ENDS, LOOP_AND_ENDS)
+PAINTING = (0, 3)
+MATING = (0, 2)
+ENDS = plain_ends(WEB)
+STRANDS = plain_strands(WEB, MATING)
+
+# For each kind: one that is right, its refusal, what that bears.
+KINDS = {
+    "web": (WEB, NoWeb, None),
+    "mating": (MATING, NoMating, None),
+    "painting": (PAINTING, NoPainting, None),
+    "hand": (4, NoHand, "hand"),
+    "end": (5, NoHand, "hand"),
+    "post": (1, NoNumber, "number"),
+    "part": (1, NoNumber, "number"),
+    "strand": (2, NoNumber, "number"),
+    "line": (3, NoNumber, "number"),
+    "rank": (2, NoNumber, "number"),
+    "couples": (((1, 7), (5, 3)), NoEnds, None),
+    "ends": (None, NoEnds, None),
+    "kind": ("bare", NoLine, None),
+}
+# What of each kind is right besides; of some all that is.
+RIGHT = {
+    "web": [EMPTY, EIGHT],
+    "mating": plain_matings(WEB),
+    "painting": list(plain_paintings(WEB)),
+    "hand": list(range(8)),
+    "end": list(range(8)),
+    "post": [0, 1],
+    "part": [0, 1],
+    "strand": list(range(len(STRANDS))),
+    "line": list(range(4)),
+    "rank": list(range(len(plain_paintings(WEB)))),
+    "couples": [(row[:2], row[2:]) for row in permutations(ENDS)],
+    "ends": [None] + [row for many in range(5) for row in combinations(ENDS, many)],
+    "kind": ["painted", "bare", "both"],
+}
+
+# Each function, its arguments' kinds; those that it has by name behind a "*"; "thing" is anything.
+FUNCTIONS = (
+    (webs.is_web, "thing"), (webs.across, "web hand"), (webs.way_of, "web hand"), (webs.ends_of, "web"),
+    (webs.ways_at, "web post"), (parts.parts_of, "web"), (parts.part_web, "web part"), (parts.part_ways, "web part"),
+    (matings.is_mating, "web thing"), (matings.mate, "web mating hand"), (matings.corners_of, "web mating"),
+    (matings.third, "web mating mating"), (strands.strands_of, "web mating"), (strands.is_cell, "web mating strand"),
+    (strands.strand_at, "web mating hand"), (strands.over, "web mating end"),
+    (strands.shows_strand, "web mating thing"), (paintings.is_painting, "web thing"),
+    (paintings.bared, "web painting"), (paintings.own_mating, "web painting"),
+    (paintings.is_painted, "web painting hand"), (paintings.painted_ends, "web painting"),
+    (paintings.owned, "web mating"), (paintings.shows_owned, "web mating thing"),
+    (rounds.painted_by_couples, "web couples"), (fronts.many_paintings, "web *ends"),
+    (fronts.painting_at, "web rank *ends"), (fronts.painting_number, "web painting *ends"),
+    (fronts.all_paintings, "web *ends"), (fronts.painting_or_fronts, "web *ends"),
+    (fronts.shows_fronts, "web thing *ends"), (lines.lines_of, "web painting"), (lines.line_at, "web painting hand"),
+    (lines.ways_along, "web painting line"), (lines.is_ring, "web painting line"),
+    (lines.shows_line, "web painting thing"), (lines.rings_of, "web painting *kind"),
+    (ties.tied, "web painting end"), (ties.ties_of, "web painting *kind"), (ties.tie_at, "web painting end"),
+    (crossed.crossed, "web painting mating"), (crossed.crossed_corners, "web painting mating strand"),
+    (crossed.is_loud, "web painting mating strand"), (clusters.clusters, "web painting mating"),
+    (clusters.cluster_at, "web painting mating strand"), (clusters.chain, "web painting mating strand strand"),
+    (clusters.shows_chain, "web painting mating strand strand thing"),
+)
+JUDGES = (
+    webs.is_web, matings.is_mating, strands.shows_strand, paintings.is_painting, paintings.shows_owned,
+    fronts.shows_fronts, lines.shows_line, clusters.shows_chain,
+)
+
+
+def wrong_ones(kind):
+    right = RIGHT[kind] + [KINDS[kind][0]]
+    things = ANYTHING + spoiled(KINDS[kind][0])
+    return [thing for thing in things if not any(alike(thing, one) for one in right)]
+
+
+def ask(function, kinds, things):
+    """The function asked by these things, those of a kind with a * by name."""
+    placed = [thing for kind, thing in zip(kinds, things) if kind[0] != "*"]
+    named = {kind[1:]: thing for kind, thing in zip(kinds, things) if kind[0] == "*"}
+    return function(*placed, **named)
+
+
+def refusal_order(function, kinds):
+    """The places of what can be refused; of fronts the ends go right behind the web."""
+    order = [at for at, kind in enumerate(kinds) if kind != "thing"]
+    if "*ends" in kinds:
+        order = [0, kinds.index("*ends")] + [at for at in order if 0 < at < kinds.index("*ends")]
+    return order
+
+
+def right_things(kinds):
+    return [None if kind == "thing" else KINDS[kind.strip("*")][0] for kind in kinds]
+
+
+class TestRefusals(unittest.TestCase):
+    def test_what_is_right_is_not_refused(self):
+        for function, text in FUNCTIONS:
+            kinds = text.split()
+            first = ask(function, kinds, right_things(kinds))
+            self.assertTrue(alike(ask(function, kinds, right_things(kinds)), first))
+
+    def test_each_argument_of_anything_and_in_order(self):
+        for function, text in FUNCTIONS:
+            kinds = text.split()
+            order = refusal_order(function, kinds)
+            for turn, at in enumerate(order):
+                kind = kinds[at].strip("*")
+                _, error, bears = KINDS[kind]
+                for behind in ("right", "wrong"):
+                    things = right_things(kinds)
+                    for later in order[turn + 1:]:
+                        if behind == "wrong":
+                            things[later] = ["none", 10 ** 39]
+                    for thing in wrong_ones(kind):
+                        things[at] = thing
+                        with self.assertRaises(error, msg=f"{function.__name__} {things}") as caught:
+                            ask(function, kinds, things)
+                        self.assertIs(caught.exception.__class__, error)
+                        if bears:
+                            self.assertIs(getattr(caught.exception, bears), thing)
+
+    def test_ends_that_are_hands_but_no_ends(self):
+        for function, text in FUNCTIONS:
+            kinds = text.split()
+            if "end" in kinds:
+                for hand in (0, 2, 4, 6):
+                    things = right_things(kinds)
+                    things[kinds.index("end")] = hand
+                    with self.assertRaises(NoEnds):
+                        ask(function, kinds, things)
+
+    def test_judges_answer_of_anything(self):
+        for function, text in FUNCTIONS:
+            if function in JUDGES:
+                kinds = text.split()
+                for thing in ANYTHING + spoiled(PAINTING) + spoiled(MATING) + spoiled(STRANDS[0]):
+                    things = right_things(kinds)
+                    things[kinds.index("thing")] = thing
+                    self.assertIn(ask(function, kinds, things), (True, False))
+                    self.assertIsInstance(ask(function, kinds, things), bool)
+
+    def test_nothing_handed_in_is_changed(self):
+        for function, text in FUNCTIONS:
+            kinds = text.split()
+            for at in range(len(kinds)):
+                for thing in ANYTHING:
+                    things = right_things(kinds)
+                    things[at] = copy.deepcopy(thing)
+                    before = repr(things)
+                    try:
+                        ask(function, kinds, things)
+                    except (NoWeb, NoMating, NoPainting, NoHand, NoNumber, NoEnds, NoLine):
+                        pass
+                    self.assertEqual(repr(things), before)
+
+    def test_rows_told_are_tuples(self):
+        for function, text in FUNCTIONS:
+            kinds = text.split()
+            self.check_told(ask(function, kinds, right_things(kinds)))
+
+    def check_told(self, told):
+        self.assertIn(type(told), (tuple, int, str, bool))
+        if isinstance(told, tuple):
+            for part in told:
+                self.check_told(part)
+
+    def test_names_are_by_name_alone(self):
+        for function, text in FUNCTIONS:
+            kinds = text.split()
+            if kinds[-1][0] == "*":
+                with self.assertRaises(TypeError):
+                    function(*right_things(kinds))
+                function(*right_things(kinds)[:-1])
+
+
+class TestEmptyWeb(unittest.TestCase):
+    """A web of no posts, with each function that can be asked of it."""
+
+    def test_what_is_told_of_it(self):
+        told = {
+            webs.ends_of: (), parts.parts_of: (), fronts.many_paintings: 1, fronts.all_paintings: ((),),
+            fronts.painting_or_fronts: ("painting", ()),
+        }
+        for function, answer in told.items():
+            self.assertEqual(function(EMPTY), answer)
+        for function in (paintings.bared, paintings.own_mating, paintings.painted_ends, lines.lines_of,
+                         lines.rings_of, ties.ties_of, matings.corners_of, strands.strands_of,
+                         rounds.painted_by_couples):
+            self.assertEqual(function(EMPTY, ()), ())
+        self.assertEqual(paintings.owned(EMPTY, ()), ("painting", ()))
+        self.assertEqual(matings.third(EMPTY, (), ()), ())
+        self.assertEqual(fronts.painting_at(EMPTY, 0), ())
+        self.assertEqual(fronts.painting_number(EMPTY, ()), 0)
+        self.assertEqual(crossed.crossed(EMPTY, (), ()), ())
+        self.assertEqual(clusters.clusters(EMPTY, (), ()), ())
+        for thing in ((), None, 0, ((),)):
+            self.assertIs(strands.shows_strand(EMPTY, (), thing), False)
+            self.assertIs(lines.shows_line(EMPTY, (), thing), False)
+
+    def test_it_has_no_hands_no_numbers(self):
+        for function, things in (
+            (webs.across, (0,)), (webs.way_of, (0,)), (matings.mate, ((), 0)), (strands.strand_at, ((), 0)),
+            (strands.over, ((), 0)), (paintings.is_painted, ((), 0)), (lines.line_at, ((), 0)),
+            (ties.tied, ((), 0)), (ties.tie_at, ((), 0)),
+        ):
+            with self.assertRaises(NoHand):
+                function(EMPTY, *things)
+        for function, things in (
+            (webs.ways_at, (0,)), (parts.part_web, (0,)), (parts.part_ways, (0,)), (strands.is_cell, ((), 0)),
+            (fronts.painting_at, (1,)), (lines.ways_along, ((), 0)), (lines.is_ring, ((), 0)),
+            (crossed.crossed_corners, ((), (), 0)), (crossed.is_loud, ((), (), 0)),
+            (clusters.cluster_at, ((), (), 0)), (clusters.chain, ((), (), 0, 0)),
+            (clusters.shows_chain, ((), (), 0, 0, None)),
+        ):
+            with self.assertRaises(NoNumber):
+                function(EMPTY, *things)
+
+
+if __name__ == "__main__":
+    unittest.main()

@@ -1,0 +1,1 @@
+"""Tiewheel: painted webs whose lines are kept."""

@@ -1,0 +1,1 @@
+"""Crossed posts by a painting and a mating, and the clusters of strands."""

@@ -1,0 +1,1 @@
+"""The lines of a painting: rings and ties."""

@@ -1,0 +1,1 @@
+"""Matings of a web's hands, and the strands that they make."""

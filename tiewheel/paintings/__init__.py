@@ -1,0 +1,1 @@
+"""Paintings of a web: judged, found, counted and told by number."""

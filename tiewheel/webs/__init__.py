@@ -1,0 +1,1 @@
+"""Webs: posts, hands, ways, ends, and the parts of a web."""
