@@ -85,6 +85,34 @@ SMALL_WEBS += [random_web(seed, 3, 6) for seed in range(40)]
 BIG_WEBS = [LONG, ROUND, board(6, 10)] + [random_web(seed) for seed in range(100, 112)]
 
 
+def plain_is_web(thing):
+    """As the document says it, one by one."""
+    if repr(type(thing)) != repr(tuple) or len(thing) != 2:
+        return False
+    many, ways = thing
+    if type(many) is not int or not 0 <= many <= 60 or type(ways) is not tuple:
+        return False
+    met = []
+    for way in ways:
+        if type(way) is not tuple or len(way) not in (1, 2) or any(type(hand) is not int for hand in way):
+            return False
+        if len(way) == 2 and way[0] >= way[1]:
+            return False
+        met += way
+    return sorted(met) == list(range(4 * many)) and list(ways) == sorted(ways)
+
+
+def plain_is_mating(web, thing):
+    return whole_row(thing) and len(thing) == web[0] and all(0 <= part <= 2 for part in thing)
+
+
+def plain_is_painting(web, thing):
+    if not whole_row(thing) or not is_strictly_rising(thing) or not all(0 <= way < len(web[1]) for way in thing):
+        return False
+    posts = [hand // 4 for hand in plain_painted_hands(web, thing)]
+    return all(posts.count(post) == 2 for post in range(web[0]))
+
+
 def plain_ends(web):
     return tuple(way[0] for way in web[1] if len(way) == 1)
 
@@ -214,6 +242,8 @@ def spoiled(thing):
         return near + ([bool(thing)] if thing in (0, 1) else [])
     if isinstance(thing, str):
         return [thing.upper(), "", thing + " ", thing[:-1], None, (thing,), 0]
+    if isinstance(thing, (list, dict)):
+        return [tuple(thing), None, (), 0, (thing,)]
     out = [list(thing), thing + (0,), thing + (None,), thing + ((),), (thing,), thing[::-1], dict(enumerate(thing))]
     for at, part in enumerate(thing):
         out.append(thing[:at] + thing[at + 1:])

@@ -4,27 +4,10 @@ import unittest
 
 from support import (
     ANYTHING, APART, BIG_WEBS, BOARD, EIGHT, EMPTY, LONG, LOOP_AND_ENDS, NESTED, ROUND, SMALL_WEBS, STAR, ladder,
-    plain_across, plain_ends, plain_way, spoiled, web_of,
+    plain_across, plain_ends, plain_is_web, plain_way, spoiled, web_of,
 )
 from tiewheel.webs.errors import NoHand, NoNumber
 from tiewheel.webs.webs import HANDS, MOST_POSTS, across, ends_of, is_web, way_of, ways_at
-
-
-def plain_is_web(thing):
-    """As the document says it, one by one."""
-    if repr(type(thing)) != repr(tuple) or len(thing) != 2:
-        return False
-    many, ways = thing
-    if type(many) is not int or not 0 <= many <= 60 or type(ways) is not tuple:
-        return False
-    met = []
-    for way in ways:
-        if type(way) is not tuple or len(way) not in (1, 2) or any(type(hand) is not int for hand in way):
-            return False
-        if len(way) == 2 and way[0] >= way[1]:
-            return False
-        met += way
-    return sorted(met) == list(range(4 * many)) and list(ways) == sorted(ways)
 
 
 class TestWebs(unittest.TestCase):

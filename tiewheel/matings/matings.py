@@ -7,6 +7,8 @@ from tiewheel.webs.webs import HANDS, need_hand, need_web
 MATINGS = 3
 # A hand and its mate, counted at their post in two bits, are unlike in just these bits.
 MATE_BITS = (1, 3, 2)
+# The corners of a post by each mating, rising.
+CORNERS = (((0, 1), (2, 3)), ((0, 3), (1, 2)), ((0, 2), (1, 3)))
 
 
 def is_mating(web, thing):
@@ -26,25 +28,26 @@ def need_mating(web, mating):
         raise NoMating("no mating of the web")
 
 
-def mate_of(mating, hand):
-    """The mate of a hand, both told by their numbers in the web."""
-    return hand ^ MATE_BITS[mating[hand // HANDS]]
+def mate_bits(mating):
+    """For each post the bits in which a hand there and its mate are unlike."""
+    return [MATE_BITS[at] for at in mating]
 
 
 def mate(web, mating, hand):
     """The other hand of a hand's pair."""
-    need_web(web)
+    beyond = need_web(web)
     need_mating(web, mating)
-    need_hand(web, hand)
-    return mate_of(mating, hand)
+    need_hand(beyond, hand)
+    return hand ^ MATE_BITS[mating[hand // HANDS]]
 
 
 def corners_of(web, mating):
     """All pairs of mates, the lesser hand ahead, rising."""
     need_web(web)
     need_mating(web, mating)
-    pairs = [(hand, mate_of(mating, hand)) for hand in range(HANDS * web[0])]
-    return tuple([pair for pair in pairs if pair[0] < pair[1]])
+    return tuple([
+        (HANDS * post + one, HANDS * post + other) for post, at in enumerate(mating) for one, other in CORNERS[at]
+    ])
 
 
 def third(web, mating, other):
@@ -52,4 +55,9 @@ def third(web, mating, other):
     need_web(web)
     need_mating(web, mating)
     need_mating(web, other)
+    return third_of(mating, other)
+
+
+def third_of(mating, other):
+    """As `third`, of what surely are matings."""
     return tuple([one if one == two else MATINGS - one - two for one, two in zip(mating, other)])

@@ -1,30 +1,37 @@
 """Strands of a mating: cells that come round again, borders from an end to an end."""
 
-from tiewheel.matings.matings import mate_of, need_mating
+from tiewheel.matings.matings import mate_bits, need_mating
 from tiewheel.webs.helper import are_below
-from tiewheel.webs.webs import HANDS, across_table, end_hands, need_end, need_hand, need_number, need_web
+from tiewheel.webs.webs import HANDS, need_end, need_hand, need_number, need_web
 
 
-def strand_from(beyond, mating, first):
-    """The row of hands from a hand to its mate and on, to an end or round; beyond has the hands across."""
-    row = [first, mate_of(mating, first)]
-    hand = beyond[row[-1]]
-    while hand is not None and hand != first:
+def strand_from(beyond, bits, first):
+    """The row of hands from a hand to its mate and on, to an end or round.
+
+    Beyond has the hands across, bits what `mate_bits` tells.
+    """
+    row = []
+    hand = first
+    while hand is not None:
+        other = hand ^ bits[hand // HANDS]
         row.append(hand)
-        row.append(mate_of(mating, hand))
-        hand = beyond[row[-1]]
+        row.append(other)
+        hand = beyond[other]
+        if hand == first:
+            break
     return tuple(row)
 
 
-def strand_rows(web, mating):
+def strand_rows(beyond, mating):
     """All strands, rising."""
-    beyond = across_table(web)
+    bits = mate_bits(mating)
     met = [False] * len(beyond)
     rows = []
+    ends = [hand for hand, other in enumerate(beyond) if other is None]
     # Ends go first, so that no border is begun amid its hands.
-    for first in list(end_hands(web)) + list(range(len(beyond))):
+    for first in ends + list(range(len(beyond))):
         if not met[first]:
-            row = strand_from(beyond, mating, first)
+            row = strand_from(beyond, bits, first)
             for hand in row:
                 met[hand] = True
             rows.append(row)
@@ -33,11 +40,16 @@ def strand_rows(web, mating):
 
 def strand_table(rows):
     """For each hand the number of the row that has it."""
-    table = [None] * sum([len(row) for row in rows])
+    table = [0] * sum([len(row) for row in rows])
     for number, row in enumerate(rows):
         for hand in row:
             table[hand] = number
     return table
+
+
+def row_with(rows, hand):
+    """The number of the row that has a hand."""
+    return [hand in row for row in rows].index(True)
 
 
 def is_round(beyond, row):
@@ -45,45 +57,45 @@ def is_round(beyond, row):
     return beyond[row[0]] is not None
 
 
-def post_pairs(rows, mating, posts):
-    """For each of these posts the numbers of the strands that its two corners lie in."""
-    table = strand_table(rows)
-    pairs = []
-    for post in posts:
-        first = HANDS * post
-        # The second hand is the mate of the first one by the mating 0 alone.
-        second = first + 2 if mating[post] == 0 else first + 1
-        pairs.append((table[first], table[second]))
-    return pairs
+def post_pairs(table, mating, posts):
+    """For each of these posts the numbers of the strands that its two corners lie in.
+
+    The table has the strands' numbers by their hands.
+    """
+    # The second hand is the mate of the first one by the mating 0 alone.
+    return [(table[HANDS * post], table[HANDS * post + (1 if mating[post] else 2)]) for post in posts]
 
 
 def strands_of(web, mating):
     """All strands of a mating, rising."""
-    need_web(web)
+    beyond = need_web(web)
     need_mating(web, mating)
-    return strand_rows(web, mating)
+    return strand_rows(beyond, mating)
 
 
 def is_cell(web, mating, number):
     """Whether the strand so numbered is a cell."""
-    rows = strands_of(web, mating)
+    beyond = need_web(web)
+    need_mating(web, mating)
+    rows = strand_rows(beyond, mating)
     need_number(number, len(rows))
-    return is_round(across_table(web), rows[number])
+    return is_round(beyond, rows[number])
 
 
 def strand_at(web, mating, hand):
     """The number of the strand that has a hand."""
-    rows = strands_of(web, mating)
-    need_hand(web, hand)
-    return strand_table(rows)[hand]
+    beyond = need_web(web)
+    need_mating(web, mating)
+    need_hand(beyond, hand)
+    return row_with(strand_rows(beyond, mating), hand)
 
 
 def over(web, mating, hand):
     """The other end of an end's border."""
-    need_web(web)
+    beyond = need_web(web)
     need_mating(web, mating)
-    need_end(web, hand)
-    return strand_from(across_table(web), mating, hand)[-1]
+    need_end(beyond, hand)
+    return strand_from(beyond, mate_bits(mating), hand)[-1]
 
 
 def shows_strand(web, mating, thing):

@@ -4,7 +4,7 @@ Within this file a state is a whole number with a bit for each painted way that 
 what is told has it as a row.
 """
 
-from tiewheel.paintings.paintings import ends_painted, paints
+from tiewheel.paintings.paintings import ends_marked, painted_marks
 from tiewheel.webs.errors import NoEnds, NoNumber, NoPainting, TooWide
 from tiewheel.webs.helper import is_rising, is_rising_below, is_row_of_two, is_whole
 from tiewheel.webs.webs import HANDS, end_hands, need_web, way_table
@@ -19,13 +19,15 @@ def need_ends(web, ends):
     """Refuses what is no rising row of ends, nor None."""
     if ends is None:
         return
-    if not is_rising_below(ends, HANDS * web[0]) or not all([hand in end_hands(web) for hand in ends]):
+    lone = end_hands(web)
+    if not is_rising_below(ends, HANDS * web[0]) or not all([hand in lone for hand in ends]):
         raise NoEnds("no rising row of ends of the web")
 
 
-def is_meant(web, painting, ends):
-    """Whether a painting has just the told ends painted."""
-    return ends is None or ends_painted(web, painting) == ends
+def is_meant(web, thing, ends):
+    """Whether a thing is a painting that has just the told ends painted."""
+    marks = painted_marks(web, thing)
+    return marks is not None and (ends is None or ends_marked(web, marks) == ends)
 
 
 def mask_of(ways):
@@ -153,7 +155,7 @@ def painting_number(web, painting, *, ends=None):
     """The number of a meant painting among all that are meant."""
     need_web(web)
     need_ends(web, ends)
-    if not paints(web, painting) or not is_meant(web, painting, ends):
+    if not is_meant(web, painting, ends):
         raise NoPainting("no painting of the web that is meant")
     plan = plan_of(web, ends)
     state = 0
@@ -198,7 +200,7 @@ def shows_fronts(web, thing, *, ends=None):
         return False
     word, told = thing
     if word == "painting":
-        return paints(web, told) and is_meant(web, told, ends)
+        return is_meant(web, told, ends)
     return word == "none" and are_fronts(web, told, ends)
 
 

@@ -1,17 +1,15 @@
 """Paintings in which coupled ends are alike."""
 
-from tiewheel.paintings.paintings import painting_of
 from tiewheel.webs.errors import NoEnds
 from tiewheel.webs.helper import are_below, is_row_of_two
-from tiewheel.webs.webs import HANDS, across_table, end_hands, need_web
+from tiewheel.webs.webs import HANDS, end_hands, need_web
 
 
 def painted_by_couples(web, couples):
     """A painting in which the two ends of each couple are both painted or both bare."""
-    need_web(web)
+    links = need_web(web)
     if not are_couples(web, couples):
         raise NoEnds("no couples of all ends of the web")
-    links = across_table(web)
     for one, other in couples:
         links[one] = other
         links[other] = one
@@ -23,7 +21,7 @@ def painted_by_couples(web, couples):
         for hand in round_from(links, gone, post)[::2]:
             flags[hand] = True
             flags[links[hand]] = True
-    return painting_of(web, flags)
+    return tuple([number for number, way in enumerate(web[1]) if flags[way[0]]])
 
 
 def are_couples(web, thing):

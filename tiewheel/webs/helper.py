@@ -8,12 +8,17 @@ def is_whole(thing):
 
 def is_below(thing, many):
     """Whether a thing is a whole number from 0 to below many."""
-    return is_whole(thing) and 0 <= thing < many
+    return isinstance(thing, int) and not isinstance(thing, bool) and 0 <= thing < many
 
 
 def are_below(thing, many):
     """Whether a thing is a row of whole numbers from 0 to below many."""
-    return isinstance(thing, tuple) and all([is_below(part, many) for part in thing])
+    if not isinstance(thing, tuple):
+        return False
+    for part in thing:
+        if not isinstance(part, int) or isinstance(part, bool) or not 0 <= part < many:
+            return False
+    return True
 
 
 def is_rising(row):
@@ -23,12 +28,25 @@ def is_rising(row):
 
 def is_rising_below(thing, many):
     """Whether a thing is a rising row of whole numbers from 0 to below many."""
-    return are_below(thing, many) and is_rising(thing)
+    if not isinstance(thing, tuple):
+        return False
+    least = 0
+    for part in thing:
+        if not isinstance(part, int) or isinstance(part, bool) or not least <= part < many:
+            return False
+        least = part + 1
+    return True
 
 
 def is_row_of_two(thing):
     """Whether a thing is a row of just two."""
     return isinstance(thing, tuple) and len(thing) == 2
+
+
+def is_same(one, other):
+    """Whether two things are the same throughout: no truth is a number, no list a row."""
+    # What things look like tells their kinds as well, which == doesn't.
+    return one == other and repr(one) == repr(other)
 
 
 def neighbours(many, pairs):
@@ -46,7 +64,10 @@ def both_ways(pairs):
 
 
 def reached(near, start):
-    """For each thing that is come to from the start the one ahead of it, None of the start."""
+    """For each thing that is come to from the start the one ahead of it, None of the start.
+
+    Each stands behind the one ahead of it.
+    """
     ahead = {start: None}
     queue = [start]
     at = 0
@@ -80,13 +101,19 @@ def path_to(ahead, last):
 
 def groups(many, pairs):
     """Rising rows of the things that hang together, in the order of their least ones."""
-    near = neighbours(many, pairs)
-    met = [False] * many
-    rows = []
-    for start in range(many):
-        if not met[start]:
-            row = tuple(sorted(reached(near, start)))
-            for thing in row:
-                met[thing] = True
-            rows.append(row)
-    return tuple(rows)
+    # Each thing leads to a lesser one of its lot, or is the least; a pair joins two lots.
+    lesser = list(range(many))
+    for one, other in pairs:
+        while lesser[one] != one:
+            one = lesser[one]
+        while lesser[other] != other:
+            other = lesser[other]
+        if one < other:
+            lesser[other] = one
+        else:
+            lesser[one] = other
+    lots = {}
+    for thing in range(many):
+        lesser[thing] = lesser[lesser[thing]]
+        lots.setdefault(lesser[thing], []).append(thing)
+    return tuple([tuple(lot) for lot in lots.values()])

@@ -12,7 +12,10 @@ def part_rows(web):
 
 def ways_in(web, posts):
     """The numbers of the ways that have hands at these posts of a part."""
-    return tuple([number for number, way in enumerate(web[1]) if way[0] // HANDS in posts])
+    inside = [False] * web[0]
+    for post in posts:
+        inside[post] = True
+    return tuple([number for number, way in enumerate(web[1]) if inside[way[0] // HANDS]])
 
 
 def parts_of(web):
@@ -24,14 +27,16 @@ def parts_of(web):
 def part_web(web, number):
     """The web of the part so numbered, its posts numbered anew."""
     posts = needed_part(web, number)
-    anew = {post: at for at, post in enumerate(posts)}
+    moved = [0] * web[0]
+    for at, post in enumerate(posts):
+        moved[post] = HANDS * (at - post)
     ways = [web[1][way] for way in ways_in(web, posts)]
-    return (len(posts), tuple([renumbered(way, anew) for way in ways]))
+    return (len(posts), tuple([renumbered(way, moved) for way in ways]))
 
 
-def renumbered(way, anew):
-    """A way whose posts have new numbers."""
-    return tuple([HANDS * anew[hand // HANDS] + hand % HANDS for hand in way])
+def renumbered(way, moved):
+    """A way whose hands are renumbered, for each post by as much as is told."""
+    return tuple([hand + moved[hand // HANDS] for hand in way])
 
 
 def part_ways(web, number):
