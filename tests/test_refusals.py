@@ -4,22 +4,33 @@ import copy
 import unittest
 from itertools import combinations, permutations
 
+from plain_deeds import plain_clusters
 from support import (
     ANYTHING, EMPTY, EIGHT, LOOP_AND_ENDS, alike, beside, plain_ends, plain_matings, plain_paintings, plain_strands,
     spoiled,
 )
-from tiewheel.clusters import clusters, crossed
+from tiewheel.clusters import clusters, crossed, flips
+from tiewheel.heirs import deeds, heirs, kept, tracks
 from tiewheel.lines import lines, ties
 from tiewheel.matings import matings, strands
 from tiewheel.paintings import fronts, paintings, rounds
+from tiewheel.products import perms
 from tiewheel.webs import parts, webs
-from tiewheel.webs.errors import NoEnds, NoHand, NoLine, NoMating, NoNumber, NoPainting, NoWeb
+from tiewheel.webs.errors import (
+    NoDeeds, NoEnds, NoFlips, NoHand, NoLabels, NoLine, NoMating, NoNumber, NoPainting, NoWeb, WebError,
+)
 
 WEB = beside(LOOP_AND_ENDS, LOOP_AND_ENDS)
 PAINTING = (0, 3)
 MATING = (0, 2)
 ENDS = plain_ends(WEB)
 STRANDS = plain_strands(WEB, MATING)
+
+
+def all_flips(mating):
+    numbers = range(len(plain_clusters(WEB, PAINTING, mating)))
+    return [row for many in range(len(numbers) + 1) for row in combinations(numbers, many)]
+
 
 # For each kind: one that is right, its refusal, what that bears.
 KINDS = {
@@ -36,7 +47,13 @@ KINDS = {
     "couples": (((1, 7), (5, 3)), NoEnds, None),
     "ends": (None, NoEnds, None),
     "kind": ("bare", NoLine, None),
+    "flips": ((0, 1), NoFlips, None),
+    "deed": (("flip", MATING, (1,)), NoDeeds, None),
+    "perm": ((1, 0, 2), NoLabels, None),
+    "size": (3, NoNumber, "number"),
 }
+# What is never refused, with one that may be handed in.
+FREE = {"thing": None, "exchanged": True}
 # What of each kind is right besides; of some all that is.
 RIGHT = {
     "web": [EMPTY, EIGHT],
@@ -52,6 +69,11 @@ RIGHT = {
     "couples": [(row[:2], row[2:]) for row in permutations(ENDS)],
     "ends": [None] + [row for many in range(5) for row in combinations(ENDS, many)],
     "kind": ["painted", "bare", "both"],
+    "flips": all_flips(MATING),
+    "deed": [("bare",)] + [("turn", mating) for mating in plain_matings(WEB)]
+            + [("flip", mating, row) for mating in plain_matings(WEB) for row in all_flips(mating)],
+    "perm": list(permutations(range(3))) + [(0,), (1, 0), (0, 1)],
+    "size": [1, 2, 3, 4, 5],
 }
 
 # Each function, its arguments' kinds; those that it has by name behind a "*"; "thing" is anything.
@@ -76,10 +98,20 @@ FUNCTIONS = (
     (crossed.is_loud, "web painting mating strand"), (clusters.clusters, "web painting mating"),
     (clusters.cluster_at, "web painting mating strand"), (clusters.chain, "web painting mating strand strand"),
     (clusters.shows_chain, "web painting mating strand strand thing"),
+    (flips.is_flips, "web painting mating thing"), (flips.flipped, "web painting mating flips"),
+    (flips.flips_to, "web painting mating painting"), (flips.turned, "web painting mating"),
+    (flips.is_still, "web painting mating"), (tracks.track_of, "web painting mating line"),
+    (deeds.is_deed, "web painting thing"), (deeds.behind, "web painting deed"), (deeds.keeps, "web painting deed"),
+    (heirs.heirs, "web painting deed"), (heirs.gone, "web painting deed"),
+    (kept.kept, "web painting painting mating *exchanged"),
+    (kept.shows_kept, "web painting painting mating thing *exchanged"),
+    (perms.is_perm, "thing"), (perms.unit, "size"), (perms.then, "perm perm"), (perms.inverse, "perm"),
+    (perms.cycles, "perm"),
 )
 JUDGES = (
     webs.is_web, matings.is_mating, strands.shows_strand, paintings.is_painting, paintings.shows_owned,
-    fronts.shows_fronts, lines.shows_line, clusters.shows_chain,
+    fronts.shows_fronts, lines.shows_line, clusters.shows_chain, flips.is_flips, deeds.is_deed, kept.shows_kept,
+    perms.is_perm,
 )
 
 
@@ -98,14 +130,15 @@ def ask(function, kinds, things):
 
 def refusal_order(function, kinds):
     """The places of what can be refused; of fronts the ends go right behind the web."""
-    order = [at for at, kind in enumerate(kinds) if kind != "thing"]
+    order = [at for at, kind in enumerate(kinds) if kind.strip("*") not in FREE]
     if "*ends" in kinds:
         order = [0, kinds.index("*ends")] + [at for at in order if 0 < at < kinds.index("*ends")]
     return order
 
 
 def right_things(kinds):
-    return [None if kind == "thing" else KINDS[kind.strip("*")][0] for kind in kinds]
+    words = [kind.strip("*") for kind in kinds]
+    return [FREE[word] if word in FREE else KINDS[word][0] for word in words]
 
 
 class TestRefusals(unittest.TestCase):
@@ -165,7 +198,7 @@ class TestRefusals(unittest.TestCase):
                     before = repr(things)
                     try:
                         ask(function, kinds, things)
-                    except (NoWeb, NoMating, NoPainting, NoHand, NoNumber, NoEnds, NoLine):
+                    except (WebError, NoHand, NoNumber):
                         pass
                     self.assertEqual(repr(things), before)
 
@@ -175,7 +208,7 @@ class TestRefusals(unittest.TestCase):
             self.check_told(ask(function, kinds, right_things(kinds)))
 
     def check_told(self, told):
-        self.assertIn(type(told), (tuple, int, str, bool))
+        self.assertIn(type(told), (tuple, int, str, bool, type(None)))
         if isinstance(told, tuple):
             for part in told:
                 self.check_told(part)

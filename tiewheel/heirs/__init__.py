@@ -1,0 +1,1 @@
+"""Tracks of lines, deeds that keep them, and their heirs."""

@@ -1,0 +1,1 @@
+"""Permutations that are gone along ways, and products along strands and lines."""
