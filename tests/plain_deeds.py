@@ -21,8 +21,10 @@ def chance_painting(web, seed):
         return rows[Random(seed).randrange(len(rows))]
     chance = Random(seed)
     painting = walked_painting(web)
-    for _ in range(4):
-        mating = random_mating(chance.random(), web)
+    for _ in range(6):
+        # Most posts crossed, so that there are many clusters to choose from.
+        own = plain_own(web, painting)
+        mating = tuple((at + chance.choice((0, 1, 1, 2, 2))) % 3 for at in own)
         lots = plain_clusters(web, painting, mating)
         chosen = [at for at in range(len(lots)) if chance.random() < 0.5]
         painting = plain_flipped(web, painting, mating, tuple(chosen))

@@ -8,7 +8,7 @@ from plain_deeds import (
     plain_is_flips, plain_loud, small_samples,
 )
 from support import (
-    ANYTHING, BOARD, EIGHT, EMPTY, LONG, LOOP_AND_ENDS, ROUND, SMALL_WEBS, STAR, alike, plain_is_painting,
+    ANYTHING, BOARD, EIGHT, EMPTY, LONG, LOOP_AND_ENDS, ROUND, STAR, alike, plain_is_painting,
     plain_matings, plain_own, plain_paintings, spoiled,
 )
 from tiewheel.clusters.clusters import clusters

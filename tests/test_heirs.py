@@ -233,7 +233,8 @@ class TestRefusals(unittest.TestCase):
             self.assertEqual([number for number, _ in told], list(range(len(lines))))
             self.assertEqual(len(plain_strands(web, own)), len(told))
             self.assertTrue(all(plain_track(web, painting, own, row) == () for _, row in lines))
-        self.assertEqual(len(plain_lines(BOARD, plain_paintings(BOARD)[0])), len(heirs(BOARD, plain_paintings(BOARD)[0], ("bare",))))
+        painting = plain_paintings(BOARD)[0]
+        self.assertEqual(len(plain_lines(BOARD, painting)), len(heirs(BOARD, painting, ("bare",))))
 
 
 if __name__ == "__main__":

@@ -64,11 +64,33 @@ INTERFACE = {
         "shows_kept(web, painting, other, mating, thing, *, exchanged=False)",
     ],
     "products.perms": ["is_perm(thing)", "unit(size)", "then(one, other)", "inverse(one)", "cycles(one)"],
+    "products.labels": [
+        "is_labels(web, thing)", "along(web, labels, hand)", "strand_product(web, mating, labels, number)",
+        "line_product(web, painting, labels, number)", "bar_of(web, mating, labels)", "closed(web, mating, labels)",
+        "pinned(web, perms)",
+    ],
+    "products.carried": ["over_product(web, mating, labels, hand)", "carried(web, painting, labels, deed)"],
+    "products.weights": [
+        "is_weights(web, thing)", "strand_sum(web, mating, weights, number)", "do_cancel(web, matings, weights)",
+        "base_of(web, matings)", "shows_base(web, matings, thing)",
+    ],
+    "two.two": [
+        "unlike_ways(web, painting, other)", "leads(web, painting, other, mating)", "fits(web, painting, other, mating)",
+        "is_amid(web, painting, other, thing)", "unlike_ends(web, painting, other, mating)",
+    ],
+    "two.bridge": [
+        "bridge(web, painting, other)", "least_fit(web, painting, other)",
+        "one_by_one(web, painting, other, *, mating=None)", "between(web, painting, other, *, mating=None)",
+        "shows_bridge(web, painting, other, thing)",
+    ],
+    "led.steps": [
+        "steps_of(web, means, painting, *, flips=True)", "kin_of(web, means, painting, *, flips=True, most=60)",
+    ],
 }
 VALUES = {
     "webs.webs": {"MOST_POSTS": 60, "HANDS": 4}, "matings.matings": {"MATINGS": 3},
     "paintings.fronts": {"MOST_STATES": 4000, "MOST_TOLD": 400}, "lines.lines": {"BOTH": "both"},
-    "products.perms": {"MOST_SIZE": 5},
+    "products.perms": {"MOST_SIZE": 5}, "led.steps": {"MOST_MEANS": 4, "MOST_KIN": 60},
 }
 
 

@@ -2,22 +2,26 @@
 
 import copy
 import unittest
-from itertools import combinations, permutations
+from functools import lru_cache
+from itertools import combinations, permutations, product
 
 from plain_deeds import plain_clusters
 from support import (
     ANYTHING, EMPTY, EIGHT, LOOP_AND_ENDS, alike, beside, plain_ends, plain_matings, plain_paintings, plain_strands,
-    spoiled,
+    spoiled, whole_row,
 )
 from tiewheel.clusters import clusters, crossed, flips
 from tiewheel.heirs import deeds, heirs, kept, tracks
+from tiewheel.led import steps
 from tiewheel.lines import lines, ties
 from tiewheel.matings import matings, strands
 from tiewheel.paintings import fronts, paintings, rounds
-from tiewheel.products import perms
+from tiewheel.products import carried, labels, perms, weights
+from tiewheel.two import bridge, two
 from tiewheel.webs import parts, webs
 from tiewheel.webs.errors import (
-    NoDeeds, NoEnds, NoFlips, NoHand, NoLabels, NoLine, NoMating, NoNumber, NoPainting, NoWeb, WebError,
+    NoDeeds, NoEnds, NoFlips, NoHand, NoLabels, NoLine, NoMating, NoNumber, NoPainting, NoWeb, TooWide,
+    WebError,
 )
 
 WEB = beside(LOOP_AND_ENDS, LOOP_AND_ENDS)
@@ -51,9 +55,17 @@ KINDS = {
     "deed": (("flip", MATING, (1,)), NoDeeds, None),
     "perm": ((1, 0, 2), NoLabels, None),
     "size": (3, NoNumber, "number"),
+    "labels": (((0, 1),) * 6, NoLabels, None),
+    "pins": (((1, 0), (0, 1)), NoLabels, None),
+    "weights": ((3, -1, 0, 10, 2, 2), NoLabels, None),
+    "matings": (((0, 2), (1, 1)), NoMating, None),
+    "leading": ((0, 1), NoMating, None),
+    "fitting": (None, NoMating, None),
+    "means": (((0, 1), (2, 2)), NoMating, None),
+    "most": (60, NoNumber, "number"),
 }
 # What is never refused, with one that may be handed in.
-FREE = {"thing": None, "exchanged": True}
+FREE = {"thing": None, "exchanged": True, "with_flips": True}
 # What of each kind is right besides; of some all that is.
 RIGHT = {
     "web": [EMPTY, EIGHT],
@@ -74,6 +86,14 @@ RIGHT = {
             + [("flip", mating, row) for mating in plain_matings(WEB) for row in all_flips(mating)],
     "perm": list(permutations(range(3))) + [(0,), (1, 0), (0, 1)],
     "size": [1, 2, 3, 4, 5],
+    "labels": list(product(permutations(range(2)), repeat=6)) + [((0,),) * 6],
+    "pins": list(product(permutations(range(2)), repeat=2)) + [((0,), (0,))],
+    "weights": [],
+    "matings": [row for many in (1, 2) for row in product(plain_matings(WEB), repeat=many)],
+    "leading": plain_matings(WEB),
+    "fitting": [None] + plain_matings(WEB),
+    "means": [row for many in (1, 2, 3, 4) for row in combinations(plain_matings(WEB), many)],
+    "most": list(range(1, 401)),
 }
 
 # Each function, its arguments' kinds; those that it has by name behind a "*"; "thing" is anything.
@@ -106,38 +126,60 @@ FUNCTIONS = (
     (kept.kept, "web painting painting mating *exchanged"),
     (kept.shows_kept, "web painting painting mating thing *exchanged"),
     (perms.is_perm, "thing"), (perms.unit, "size"), (perms.then, "perm perm"), (perms.inverse, "perm"),
-    (perms.cycles, "perm"),
+    (perms.cycles, "perm"), (labels.is_labels, "web thing"), (labels.along, "web labels hand"),
+    (labels.strand_product, "web mating labels strand"), (labels.line_product, "web painting labels line"),
+    (labels.bar_of, "web mating labels"), (labels.closed, "web mating labels"), (labels.pinned, "web pins"),
+    (carried.over_product, "web mating labels end"), (carried.carried, "web painting labels deed"),
+    (weights.is_weights, "web thing"), (weights.strand_sum, "web mating weights strand"),
+    (weights.do_cancel, "web matings weights"), (weights.base_of, "web matings"),
+    (weights.shows_base, "web matings thing"), (two.unlike_ways, "web painting painting"),
+    (two.leads, "web painting painting mating"), (two.fits, "web painting painting mating"),
+    (two.is_amid, "web painting painting thing"), (two.unlike_ends, "web painting painting leading"),
+    (bridge.bridge, "web painting painting"), (bridge.least_fit, "web painting painting"),
+    (bridge.one_by_one, "web painting painting *mating=fitting"),
+    (bridge.between, "web painting painting *mating=fitting"),
+    (bridge.shows_bridge, "web painting painting thing"),
+    (steps.steps_of, "web means painting *flips=with_flips"),
+    (steps.kin_of, "web means painting *flips=with_flips *most"),
 )
 JUDGES = (
     webs.is_web, matings.is_mating, strands.shows_strand, paintings.is_painting, paintings.shows_owned,
     fronts.shows_fronts, lines.shows_line, clusters.shows_chain, flips.is_flips, deeds.is_deed, kept.shows_kept,
-    perms.is_perm,
+    perms.is_perm, labels.is_labels, weights.is_weights, weights.shows_base, two.is_amid, bridge.shows_bridge,
 )
 
 
+def word_of(kind):
+    """What is handed in: of "*name=kind", as of "*kind", the kind."""
+    return kind.strip("*").rpartition("=")[2]
+
+
+@lru_cache(maxsize=None)
 def wrong_ones(kind):
-    right = RIGHT[kind] + [KINDS[kind][0]]
-    things = ANYTHING + spoiled(KINDS[kind][0])
-    return [thing for thing in things if not any(alike(thing, one) for one in right)]
+    right = {repr(one) for one in RIGHT[kind] + [KINDS[kind][0]]}
+    things = [thing for thing in ANYTHING + spoiled(KINDS[kind][0]) if repr(thing) not in right]
+    if kind == "weights":
+        things = [thing for thing in things if not whole_row(thing) or len(thing) != 6]
+    return things
 
 
 def ask(function, kinds, things):
     """The function asked by these things, those of a kind with a * by name."""
     placed = [thing for kind, thing in zip(kinds, things) if kind[0] != "*"]
-    named = {kind[1:]: thing for kind, thing in zip(kinds, things) if kind[0] == "*"}
+    named = {kind.strip("*").partition("=")[0]: thing for kind, thing in zip(kinds, things) if kind[0] == "*"}
     return function(*placed, **named)
 
 
 def refusal_order(function, kinds):
     """The places of what can be refused; of fronts the ends go right behind the web."""
-    order = [at for at, kind in enumerate(kinds) if kind.strip("*") not in FREE]
+    order = [at for at, kind in enumerate(kinds) if word_of(kind) not in FREE]
     if "*ends" in kinds:
         order = [0, kinds.index("*ends")] + [at for at in order if 0 < at < kinds.index("*ends")]
     return order
 
 
 def right_things(kinds):
-    words = [kind.strip("*") for kind in kinds]
+    words = [word_of(kind) for kind in kinds]
     return [FREE[word] if word in FREE else KINDS[word][0] for word in words]
 
 
@@ -153,7 +195,7 @@ class TestRefusals(unittest.TestCase):
             kinds = text.split()
             order = refusal_order(function, kinds)
             for turn, at in enumerate(order):
-                kind = kinds[at].strip("*")
+                kind = word_of(kinds[at])
                 _, error, bears = KINDS[kind]
                 for behind in ("right", "wrong"):
                     things = right_things(kinds)
@@ -198,7 +240,7 @@ class TestRefusals(unittest.TestCase):
                     before = repr(things)
                     try:
                         ask(function, kinds, things)
-                    except (WebError, NoHand, NoNumber):
+                    except (WebError, NoHand, NoNumber, TooWide):
                         pass
                     self.assertEqual(repr(things), before)
 
@@ -219,7 +261,7 @@ class TestRefusals(unittest.TestCase):
             if kinds[-1][0] == "*":
                 with self.assertRaises(TypeError):
                     function(*right_things(kinds))
-                function(*right_things(kinds)[:-1])
+                function(*[thing for kind, thing in zip(kinds, right_things(kinds)) if kind[0] != "*"])
 
 
 class TestEmptyWeb(unittest.TestCase):

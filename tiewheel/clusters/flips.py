@@ -24,9 +24,8 @@ def strands_in(lots, numbers):
     return [number for at in numbers for number in lots[at][1]]
 
 
-def repainted(web, painting, rows, numbers):
-    """The painting that comes where the strands so numbered are painted for bare."""
-    table = way_table(web)
+def repainted(table, painting, rows, numbers):
+    """The painting that comes where the strands so numbered are painted for bare; the table is `way_table`'s."""
     ways = [table[hand] for number in numbers for hand in rows[number]]
     return tuple(sorted(set(painting) ^ set(ways)))
 
@@ -51,7 +50,7 @@ def flipped(web, painting, mating, flips):
     rows, lots = needed_clusters(web, painting, mating)
     if not is_rising_below(flips, len(lots)):
         raise NoFlips("no flips of the painting's clusters")
-    return repainted(web, painting, rows, strands_in(lots, flips))
+    return repainted(way_table(web), painting, rows, strands_in(lots, flips))
 
 
 def flips_to(web, painting, mating, other):
@@ -78,7 +77,7 @@ def flips_between(web, painting, other, rows, lots):
 def turned(web, painting, mating):
     """The painting that comes where all loud clusters are flipped."""
     rows, lots = needed_clusters(web, painting, mating)
-    return repainted(web, painting, rows, strands_in(lots, loud_numbers(lots)))
+    return repainted(way_table(web), painting, rows, strands_in(lots, loud_numbers(lots)))
 
 
 def is_still(web, painting, mating):

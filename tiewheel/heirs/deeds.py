@@ -8,7 +8,7 @@ from tiewheel.matings.strands import strand_rows
 from tiewheel.paintings.paintings import bare_ways, need_painting
 from tiewheel.webs.errors import NoDeeds
 from tiewheel.webs.helper import is_rising_below
-from tiewheel.webs.webs import need_web
+from tiewheel.webs.webs import need_web, way_table
 
 TURN = "turn"
 FLIP = "flip"
@@ -66,7 +66,8 @@ def painted_by(web, painting, work):
     """The painting that comes of a deed whose work is told, None of ("bare",)."""
     if work is None:
         return bare_ways(web, painting)
-    return repainted(web, painting, work.rows, [number for number, sweep in enumerate(work.swept) if sweep])
+    numbers = [number for number, sweep in enumerate(work.swept) if sweep]
+    return repainted(way_table(web), painting, work.rows, numbers)
 
 
 def is_deed(web, painting, thing):

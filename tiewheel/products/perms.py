@@ -13,6 +13,23 @@ def is_perm(thing):
     return are_below(thing, len(thing)) and sorted(thing) == list(range(len(thing)))
 
 
+def are_perms(thing):
+    """Whether a thing is a row of permutations of one size."""
+    if not isinstance(thing, tuple):
+        return False
+    if not thing:
+        return True
+    if not is_perm(thing[0]):
+        return False
+    row = list(range(len(thing[0])))
+    for perm in thing:
+        if not isinstance(perm, tuple) or len(perm) != len(row):
+            return False
+    if not all([isinstance(part, int) and not isinstance(part, bool) for perm in thing for part in perm]):
+        return False
+    return all([sorted(perm) == row for perm in thing])
+
+
 def need_perm(thing):
     """Refuses what is no permutation."""
     if not is_perm(thing):
@@ -27,6 +44,11 @@ def plain_unit(size):
 def chained(one, other):
     """First one, then other: the row that has at x what other has at one's x."""
     return tuple([other[x] for x in one])
+
+
+def chained_back(one, other):
+    """First one, then other's inverse."""
+    return tuple([other.index(x) for x in one])
 
 
 def undone(one):

@@ -1,0 +1,1 @@
+"""Paintings led to one another by deeds that keep lines."""
