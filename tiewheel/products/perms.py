@@ -22,9 +22,8 @@ def are_perms(thing):
     if not is_perm(thing[0]):
         return False
     row = list(range(len(thing[0])))
-    for perm in thing:
-        if not isinstance(perm, tuple) or len(perm) != len(row):
-            return False
+    if not all([isinstance(perm, tuple) for perm in thing]):
+        return False
     if not all([isinstance(part, int) and not isinstance(part, bool) for perm in thing for part in perm]):
         return False
     return all([sorted(perm) == row for perm in thing])

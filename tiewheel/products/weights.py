@@ -86,7 +86,8 @@ def base_of(web, matings):
     for cell in cells:
         if cell not in met:
             order = tree_from(cells, cells_on, cell)[0]
-            met.update({other: True for other in order})
+            for other in order:
+                met[other] = True
             steps.extend(steps_of_lot(cells, cells_on, order))
     told = [way for _, way in steps]
     free = tuple([way for way in range(len(web[1])) if way not in told])

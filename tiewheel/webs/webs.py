@@ -22,21 +22,26 @@ def hands_across(thing):
     # As ways rise, each begins with the least hand that none ahead of it has. So the first hand
     # has just to be equal to that one, and no row of all hands has to be sorted.
     least = 0
+    # All hands are met where, of so many ways, just so many are ends.
+    ends_left = 2 * len(thing[1]) - many
     for way in thing[1]:
+        while beyond[least] is not None:
+            least += 1
         if isinstance(way, tuple) and len(way) == 2:
             low, high = way
-            if low != least or not isinstance(high, int) or not least < high < many or beyond[high] is not None:
+            if low != least or not isinstance(high, int) or high <= least or high >= many or beyond[high] is not None:
                 return None
             beyond[least] = high
             beyond[high] = least
-        elif way != (least,) or least == many:
-            return None
-        least += 1
-        while beyond[least] is not None:
+        elif way == (least,) and least < many:
             least += 1
-    if least != many or has_truths(thing[1]):
+            ends_left -= 1
+        else:
+            return None
+    if ends_left != 0 or has_truths(thing[1]):
         return None
-    return beyond[:many]
+    beyond.pop()
+    return beyond
 
 
 def has_truths(ways):
