@@ -65,6 +65,8 @@ def bound_names(tree):
             yield node.id
         elif isinstance(node, ast.alias):
             yield node.asname or node.name
+        elif isinstance(node, ast.MatchAs) and node.name:
+            yield node.name
 
 
 class TestNames(unittest.TestCase):

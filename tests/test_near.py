@@ -1,21 +1,24 @@
 """[3], [5], [7]: webs, matings, paintings told from anything near them, small and of sixty posts."""
 
 import unittest
+from itertools import product
 from random import Random
 
 from support import (
     ANYTHING, BIG_WEBS, BOARD, EIGHT, EMPTY, FOUR_WAYS, LONG, LOOP_AND_ENDS, NESTED, ROUND, SMALL_WEBS, STAR, ladder,
-    plain_is_mating, plain_is_painting, plain_is_web, random_mating, spoiled, web_of,
+    plain_across, plain_is_mating, plain_is_painting, plain_is_web, plain_way, random_mating, spoiled, web_of,
 )
 from tiewheel.matings.matings import corners_of, is_mating, mate, third
 from tiewheel.paintings.fronts import painting_at
 from tiewheel.paintings.paintings import bared, is_painting, own_mating
 from tiewheel.webs.errors import NoMating, NoPainting, NoWeb
-from tiewheel.webs.webs import across, ends_of, is_web
+from tiewheel.webs.webs import across, ends_of, is_web, way_of, ways_at
 
 FAR = (60, tuple((hand, hand + 120) for hand in range(120)))
 LOOPS = (60, tuple((hand, hand + 1) for hand in range(0, 240, 2)))
 ALL_ENDS = (60, tuple((hand,) for hand in range(240)))
+FIRST_AHEAD = web_of(60, [(0,), (1,), (120,), (121,)] + [(hand, hand + 120) for hand in range(2, 120)])
+CHANCE_AHEAD = web_of(60, [(0,), (239,)] + list(zip(range(1, 120), Random(2).sample(range(120, 239), 119))))
 SIXTY = [FAR, LOOPS, ALL_ENDS, LONG, ROUND]
 OTHER_KINDS = [None, "", "0", (), [], {}, (0,), [0], {0: 0}, True, False, -1, 10 ** 39, -10 ** 39, 10 ** 40 - 1]
 
@@ -110,6 +113,64 @@ class TestNearWebs(unittest.TestCase):
                 self.assertIs(is_web(thing), plain_is_web(thing), thing)
                 thing = web_of(many, ways[:at] + ways[at + 1:] + (row,))
                 self.assertIs(is_web(thing), plain_is_web(thing), thing)
+
+    def test_all_rows_of_ways_of_one_post(self):
+        hands = range(-1, 5)
+        ways = [(hand,) for hand in hands] + [(one, other) for one in hands for other in hands]
+        right = 0
+        for row in [row for many in (1, 2, 3) for row in product(ways, repeat=many)]:
+            expected = plain_is_web((1, row))
+            self.assertIs(is_web((1, row)), expected, row)
+            right += expected
+        # Three rows of two pairs, and six of one pair with two ends.
+        self.assertEqual(right, 9)
+        for row in product([(hand,) for hand in hands], repeat=4):
+            self.assertIs(is_web((1, row)), row == ((0,), (1,), (2,), (3,)), row)
+
+    def test_truths_and_hands_of_one_post(self):
+        hands = (0, 1, 2, 3, False, True)
+        ways = [(hand,) for hand in hands] + [(one, other) for one in hands for other in hands]
+        for row in product(ways, repeat=2):
+            self.assertIs(is_web((1, row)), plain_is_web((1, row)), row)
+        for row in product(hands, repeat=4):
+            for thing in ((1, (row[:2], row[2:])), (1, (row[:1], row[1:3], row[3:])), (1, tuple(zip(row)))):
+                self.assertIs(is_web(thing), plain_is_web(thing), thing)
+
+    def test_a_hand_twice_and_another_not_at_all(self):
+        for web in [FIRST_AHEAD, CHANCE_AHEAD] + SIXTY + BIG_WEBS[3:6]:
+            many, ways = web
+            for at in range(0, len(ways), 3):
+                for place in range(len(ways[at])):
+                    for hand in range(0, 4 * many, 7):
+                        thing = (many, replaced(ways, at, replaced(ways[at], place, hand)))
+                        self.assertIs(is_web(thing), plain_is_web(thing), thing)
+
+    def test_two_hands_in_one_another_s_place(self):
+        right = wrong = 0
+        for web in [FIRST_AHEAD, CHANCE_AHEAD, FAR, LONG, ROUND]:
+            many, ways = web
+            chance = Random(8)
+            for _ in range(300):
+                one, other = sorted(chance.sample(range(len(ways)), 2))
+                this, that = chance.randrange(len(ways[one])), chance.randrange(len(ways[other]))
+                row = replaced(ways, one, replaced(ways[one], this, ways[other][that]))
+                row = replaced(row, other, replaced(ways[other], that, ways[one][this]))
+                for thing in ((many, row), web_of(many, row), (many, tuple(sorted(row)))):
+                    expected = plain_is_web(thing)
+                    self.assertIs(is_web(thing), expected, thing)
+                    right, wrong = right + expected, wrong + (not expected)
+        self.assertGreater(min(right, wrong), 500)
+
+    def test_webs_whose_first_hands_are_all_ahead(self):
+        for web in (FIRST_AHEAD, CHANCE_AHEAD, FAR):
+            self.assertIs(is_web(web), True)
+            table = plain_across(web)
+            for hand in range(240):
+                self.assertEqual(across(web, hand), table[hand])
+                self.assertEqual(way_of(web, hand), plain_way(web, hand))
+            for post in range(60):
+                self.assertEqual(ways_at(web, post), tuple(plain_way(web, 4 * post + side) for side in range(4)))
+            self.assertEqual(ends_of(web), tuple(hand for hand in range(240) if table[hand] is None))
 
     def test_at_most_sixty_posts(self):
         self.assertIs(is_web(ladder(61)), False)

@@ -1,7 +1,7 @@
 """Webs: posts with four hands each, and the ways that join hands or lead out."""
 
 from tiewheel.webs.errors import NoEnds, NoHand, NoNumber, NoWeb
-from tiewheel.webs.helper import is_below, is_row_of_two
+from tiewheel.webs.helper import is_below
 
 MOST_POSTS = 60
 HANDS = 4
@@ -14,39 +14,61 @@ def is_web(thing):
 
 def hands_across(thing):
     """For each hand of a web the hand across, None of an end's; None of what is no web."""
-    if not is_row_of_two(thing) or not is_below(thing[0], MOST_POSTS + 1) or not isinstance(thing[1], tuple):
+    if not isinstance(thing, tuple) or len(thing) != 2:
         return None
-    many = HANDS * thing[0]
-    # One more than there are hands, so that looking for the next hand ends there.
-    beyond = [None] * (many + 1)
-    # As ways rise, each begins with the least hand that none ahead of it has. So the first hand
-    # has just to be equal to that one, and no row of all hands has to be sorted.
+    posts, ways = thing
+    if not isinstance(posts, int) or isinstance(posts, bool) or not 0 <= posts <= MOST_POSTS:
+        return None
+    if not isinstance(ways, tuple):
+        return None
+    many = HANDS * posts
+    beyond = [None] * many
+    ends = []
+    # Ways rise where their first hands do, as in the end no hand is found in two.
     least = 0
-    # All hands are met where, of so many ways, just so many are ends.
-    ends_left = 2 * len(thing[1]) - many
-    for way in thing[1]:
-        while beyond[least] is not None:
-            least += 1
-        if isinstance(way, tuple) and len(way) == 2:
-            low, high = way
-            if low != least or not isinstance(high, int) or high <= least or high >= many or beyond[high] is not None:
-                return None
-            beyond[least] = high
-            beyond[high] = least
-        elif way == (least,) and least < many:
-            least += 1
-            ends_left -= 1
-        else:
-            return None
-    if ends_left != 0 or has_truths(thing[1]):
+    for way in ways:
+        if isinstance(way, tuple):
+            match way:
+                case [low, high]:
+                    # A first hand mostly is just the next one, and to see that is the quickest.
+                    if (low == least or isinstance(low, int) and low > least) and (
+                        isinstance(high, int) and low < high and high < many
+                    ):
+                        beyond[low] = high
+                        beyond[high] = low
+                        least = low + 1
+                        continue
+                case [low]:
+                    if isinstance(low, int) and low >= least and low < many:
+                        # Until all hands are found to be met, an end has itself across.
+                        beyond[low] = low
+                        ends.append(low)
+                        least = low + 1
+                        continue
         return None
-    beyond.pop()
+    if len(ends) != 2 * len(ways) - many or posts > 0 and not are_all_met(beyond, ways, least):
+        return None
+    for end in ends:
+        beyond[end] = None
     return beyond
 
 
-def has_truths(ways):
-    """Whether a truth stands for the hand 0 or 1; these stand in the first two of rising ways."""
-    return any([isinstance(hand, bool) for way in ways[:2] for hand in way])
+def are_all_met(beyond, ways, behind):
+    """Whether each hand of a web of some posts has one across, and no truth stands for a hand.
+
+    Behind is the hand behind the last way's first one. Of so many hands in all ways none is
+    met twice then.
+    """
+    other = beyond[0]
+    # Truths stand for the hands 0 and 1 at the most; these are in the first two ways.
+    if other is None or isinstance(other, bool) or isinstance(ways[0][0], bool) or isinstance(ways[1][0], bool):
+        return False
+    # The hand 0 across is no None, but nothing either.
+    beyond[other] = len(beyond)
+    # As many first hands as there are hands ahead of the one behind: these are met.
+    are_met = all(beyond[behind:]) if behind == len(ways) else all(beyond)
+    beyond[other] = 0
+    return are_met
 
 
 def need_web(web):
@@ -87,10 +109,13 @@ def way_table(web):
 
 def way_number(web, beyond, hand):
     """The number of a hand's way: faster than a table of all."""
+    ways = web[1]
     other = beyond[hand]
-    if other is None:
-        return web[1].index((hand,))
-    return web[1].index((hand, other) if hand < other else (other, hand))
+    first = hand if other is None or hand < other else other
+    # Ahead of a way stand as many as it has lesser hands at the most, and half as many at the least.
+    if first < len(ways) and ways[first][0] == first:
+        return first
+    return ways.index((first,) if other is None else (first, beyond[first]), (first + 1) // 2)
 
 
 def end_hands(web):
@@ -101,7 +126,8 @@ def end_hands(web):
 def across(web, hand):
     """The other hand of a hand's way, None of an end's."""
     beyond = need_web(web)
-    need_hand(beyond, hand)
+    if not is_below(hand, len(beyond)):
+        raise NoHand(hand)
     return beyond[hand]
 
 
