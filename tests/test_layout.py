@@ -86,11 +86,41 @@ INTERFACE = {
     "led.steps": [
         "steps_of(web, means, painting, *, flips=True)", "kin_of(web, means, painting, *, flips=True, most=60)",
     ],
+    "led.led": [
+        "led_to(web, means, painting, other, *, flips=True, most=60)",
+        "fewest(web, means, painting, other, *, flips=True, most=60)",
+        "shows_led(web, means, painting, other, thing, *, flips=True)",
+    ],
+    "led.along": [
+        "are_deeds(web, painting, thing)", "done(web, painting, deeds)", "all_keep(web, painting, deeds)",
+        "heirs_along(web, painting, deeds)", "gone_along(web, painting, deeds)",
+    ],
+    "wheels.wheels": [
+        "barred_by(web, first, second)", "is_wheel(web, first, second)", "rims_of(web, first, second)",
+        "place_of(web, first, second, hand)", "end_behind(web, first, second, hand, turns, *, begin=0)",
+        "is_by_turns(web, first, second, painting)", "by_turns(web, first, second, *, painted=())",
+    ],
+    "wheels.far": [
+        "ties_behind(web, first, second, painting, turns, *, begin=0)",
+        "tied_behind(web, first, second, painting, hand, turns, *, begin=0)",
+        "products_behind(web, first, second, painting, labels, turns, *, begin=0)",
+        "beats_of(web, first, second, painting)",
+    ],
+    "wheels.again": [
+        "round_of(web, first, second, painting, *, most=1000)",
+        "painting_behind(web, first, second, painting, turns, *, begin=0, most=1000)",
+    ],
+    "counts.tables": [
+        "account_of(web, painting)", "table_of(web, *, ends=None)", "many_with(web, painted, bare, *, ends=None)",
+        "table_over(web, mating, table)",
+    ],
 }
 VALUES = {
     "webs.webs": {"MOST_POSTS": 60, "HANDS": 4}, "matings.matings": {"MATINGS": 3},
     "paintings.fronts": {"MOST_STATES": 4000, "MOST_TOLD": 400}, "lines.lines": {"BOTH": "both"},
     "products.perms": {"MOST_SIZE": 5}, "led.steps": {"MOST_MEANS": 4, "MOST_KIN": 60},
+    "led.along": {"MOST_ROW": 60}, "wheels.wheels": {"MOST_CELL": 4, "MOST_BORDER": 3, "MOST_FAR": 10 ** 30},
+    "wheels.again": {"MOST_BEATS": 1000}, "counts.tables": {"MOST_HALVES": 4000},
 }
 
 
@@ -158,7 +188,13 @@ class TestFiles(unittest.TestCase):
                 kinds = (ast.Expr, ast.ImportFrom, ast.FunctionDef, ast.ClassDef, ast.Assign)
                 self.assertIsInstance(node, kinds, path)
                 if isinstance(node, ast.Assign):
-                    self.assertIsInstance(node.value, (ast.Constant, ast.Tuple), path)
+                    self.assertIsInstance(ast.literal_eval(self.computed(node.value)), (int, str, tuple), path)
+
+    def computed(self, node):
+        """A power of two numbers as the number that it is."""
+        if isinstance(node, ast.BinOp) and isinstance(node.op, ast.Pow):
+            return ast.Constant(node.left.value ** node.right.value)
+        return node
 
 
 if __name__ == "__main__":

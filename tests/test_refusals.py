@@ -5,14 +5,17 @@ import unittest
 from functools import lru_cache
 from itertools import combinations, permutations, product
 
+from plain_counts import plain_is_table
 from plain_deeds import plain_clusters
+from plain_led import plain_are_deeds
 from support import (
     ANYTHING, EMPTY, EIGHT, LOOP_AND_ENDS, alike, beside, plain_ends, plain_matings, plain_paintings, plain_strands,
     spoiled, whole_row,
 )
 from tiewheel.clusters import clusters, crossed, flips
+from tiewheel.counts import tables
 from tiewheel.heirs import deeds, heirs, kept, tracks
-from tiewheel.led import steps
+from tiewheel.led import along, led, steps
 from tiewheel.lines import lines, ties
 from tiewheel.matings import matings, strands
 from tiewheel.paintings import fronts, paintings, rounds
@@ -23,6 +26,7 @@ from tiewheel.webs.errors import (
     NoDeeds, NoEnds, NoFlips, NoHand, NoLabels, NoLine, NoMating, NoNumber, NoPainting, NoWeb, TooWide,
     WebError,
 )
+from tiewheel.wheels import again, wheels
 
 WEB = beside(LOOP_AND_ENDS, LOOP_AND_ENDS)
 PAINTING = (0, 3)
@@ -63,6 +67,14 @@ KINDS = {
     "fitting": (None, NoMating, None),
     "means": (((0, 1), (2, 2)), NoMating, None),
     "most": (60, NoNumber, "number"),
+    "deeds": ((("bare",), ("turn", (1, 2))), NoDeeds, None),
+    "turns": (10 ** 30, NoNumber, "number"),
+    "begin": (1, NoNumber, "number"),
+    "beats": (1000, NoNumber, "number"),
+    "rims": ((1,), NoNumber, "number"),
+    "painted_ties": (((1, 3),), NoEnds, None),
+    "bare_ties": (((5, 7),), NoEnds, None),
+    "table": ((((((1, 3),), ((5, 7),), 2), 3),), NoEnds, None),
 }
 # What is never refused, with one that may be handed in.
 FREE = {"thing": None, "exchanged": True, "with_flips": True}
@@ -94,6 +106,21 @@ RIGHT = {
     "fitting": [None] + plain_matings(WEB),
     "means": [row for many in (1, 2, 3, 4) for row in combinations(plain_matings(WEB), many)],
     "most": list(range(1, 401)),
+    "deeds": [],
+    "turns": [],
+    "begin": [0, 1],
+    "beats": list(range(1, 1001)),
+    "rims": [(), (0,), (1,), (0, 1)],
+    "painted_ties": [],
+    "bare_ties": [],
+    "table": [],
+}
+# Of others too much is right to be listed.
+JUDGED = {
+    "weights": lambda thing: whole_row(thing) and len(thing) == 6,
+    "turns": lambda thing: whole_row((thing,)) and 0 <= thing <= 10 ** 30,
+    "deeds": lambda thing: plain_are_deeds(WEB, PAINTING, thing),
+    "table": lambda thing: plain_is_table(WEB, thing),
 }
 
 # Each function, its arguments' kinds; those that it has by name behind a "*"; "thing" is anything.
@@ -141,11 +168,25 @@ FUNCTIONS = (
     (bridge.shows_bridge, "web painting painting thing"),
     (steps.steps_of, "web means painting *flips=with_flips"),
     (steps.kin_of, "web means painting *flips=with_flips *most"),
+    (led.led_to, "web means painting painting *flips=with_flips *most"),
+    (led.fewest, "web means painting painting *flips=with_flips *most"),
+    (led.shows_led, "web means painting painting thing *flips=with_flips"),
+    (along.are_deeds, "web painting thing"), (along.done, "web painting deeds"),
+    (along.all_keep, "web painting deeds"), (along.heirs_along, "web painting deeds"),
+    (along.gone_along, "web painting deeds"), (wheels.barred_by, "web mating mating"),
+    (wheels.is_wheel, "web mating mating"), (wheels.rims_of, "web mating mating"),
+    (wheels.place_of, "web mating mating end"), (wheels.end_behind, "web mating mating end turns *begin"),
+    (wheels.is_by_turns, "web mating mating painting"), (wheels.by_turns, "web mating mating *painted=rims"),
+    (again.round_of, "web mating mating painting *most=beats"),
+    (again.painting_behind, "web mating mating painting turns *begin *most=beats"),
+    (tables.account_of, "web painting"), (tables.table_of, "web *ends"),
+    (tables.many_with, "web painted_ties bare_ties *ends"), (tables.table_over, "web mating table"),
 )
 JUDGES = (
     webs.is_web, matings.is_mating, strands.shows_strand, paintings.is_painting, paintings.shows_owned,
     fronts.shows_fronts, lines.shows_line, clusters.shows_chain, flips.is_flips, deeds.is_deed, kept.shows_kept,
     perms.is_perm, labels.is_labels, weights.is_weights, weights.shows_base, two.is_amid, bridge.shows_bridge,
+    led.shows_led, along.are_deeds,
 )
 
 
@@ -158,9 +199,7 @@ def word_of(kind):
 def wrong_ones(kind):
     right = {repr(one) for one in RIGHT[kind] + [KINDS[kind][0]]}
     things = [thing for thing in ANYTHING + spoiled(KINDS[kind][0]) if repr(thing) not in right]
-    if kind == "weights":
-        things = [thing for thing in things if not whole_row(thing) or len(thing) != 6]
-    return things
+    return [thing for thing in things if kind not in JUDGED or not JUDGED[kind](thing)]
 
 
 def ask(function, kinds, things):

@@ -65,15 +65,39 @@ def steps_of(web, means, painting, *, flips=True):
 
 
 def led_from(web, beyond, table, strands, painting, flips):
-    """The paintings to which the steps from a painting lead; strands are what `strands_by` tells."""
+    """(deed, painting to which it leads) of each step from a painting; strands are what `strands_by` tells."""
     marks = marks_of(web, painting)
     led = []
     for mating, rows in strands:
         lots = clusters_by(beyond, marks, mating, rows)
-        led.append(repainted(table, painting, rows, strands_in(lots, loud_numbers(lots))))
+        led.append(((TURN, mating), repainted(table, painting, rows, strands_in(lots, loud_numbers(lots)))))
         if flips:
-            led.extend([repainted(table, painting, rows, lots[at][1]) for at in quiet_numbers(lots)])
+            for at in quiet_numbers(lots):
+                led.append(((FLIP, mating, (at,)), repainted(table, painting, rows, lots[at][1])))
     return led
+
+
+def walked(web, beyond, means, painting, flips, most):
+    """(shells, ahead): all kin by how few steps lead to them, and for each the last of these steps.
+
+    Shells are lists of paintings; ahead has for each painting (deed, the painting from which it
+    leads there), None for the first one.
+    """
+    table = way_table(web)
+    strands = strands_by(beyond, means)
+    ahead = {painting: None}
+    shells = [[painting]]
+    while shells[-1]:
+        shell = []
+        for here in shells[-1]:
+            for deed, other in led_from(web, beyond, table, strands, here, flips):
+                if other not in ahead:
+                    if len(ahead) == most:
+                        raise TooWide(most)
+                    ahead[other] = (deed, here)
+                    shell.append(other)
+        shells.append(shell)
+    return shells[:-1], ahead
 
 
 def kin_of(web, means, painting, *, flips=True, most=MOST_KIN):
@@ -82,18 +106,5 @@ def kin_of(web, means, painting, *, flips=True, most=MOST_KIN):
     need_means(web, means)
     need_painting(web, painting)
     need_most(most)
-    table = way_table(web)
-    strands = strands_by(beyond, means)
-    met = {painting: True}
-    row = [painting]
-    at = 0
-    while at < len(row):
-        led = led_from(web, beyond, table, strands, row[at], flips)
-        for other in led:
-            if other not in met:
-                if len(row) == most:
-                    raise TooWide(most)
-                met[other] = True
-                row.append(other)
-        at += 1
-    return tuple(sorted(row))
+    _, ahead = walked(web, beyond, means, painting, flips, most)
+    return tuple(sorted(ahead))

@@ -1,0 +1,1 @@
+"""Tables of how many paintings have which ties, and paintings near one another."""
