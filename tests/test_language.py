@@ -17,7 +17,7 @@ USED_BUILTINS = set(
 USED_METHODS = set(
     "append clear copy count endswith extend find get index insert isalnum isalpha isdigit islower isspace isupper items"
     " join keys ljust lower lstrip partition pop remove replace reverse rfind rjust rpartition rsplit rstrip setdefault"
-    " split splitlines startswith strip update upper values zfill bit_length add discard from_iterable sort".split()
+    " split splitlines startswith strip update upper values zfill bit_length add discard from_iterable isdecimal".split()
 )
 LIBRARY = {
     "heapq": {"heappush", "heappop", "heapify", "heapreplace", "heappushpop"},
@@ -98,13 +98,15 @@ class TestNames(unittest.TestCase):
             self.assertEqual(len(names), len(set(names)), path)
 
     def test_just_the_builtins_and_methods_of_the_language(self):
+        own = {node.name for _, tree in trees() for node in ast.walk(tree)
+               if isinstance(node, ast.FunctionDef) and isinstance(node.parent, ast.ClassDef)}
         for path, tree in trees():
             known = set(bound_names(tree)) | USED_BUILTINS
             for node in ast.walk(tree):
                 if isinstance(node, ast.Name):
                     self.assertIn(node.id, known, path)
                 if isinstance(node, ast.Call) and isinstance(node.func, ast.Attribute):
-                    self.assertIn(node.func.attr, USED_METHODS | {"__init__"}, (path, node.lineno))
+                    self.assertIn(node.func.attr, USED_METHODS | own, (path, node.lineno))
 
     def test_no_barred_word(self):
         for path, tree in trees():

@@ -114,6 +114,43 @@ INTERFACE = {
         "account_of(web, painting)", "table_of(web, *, ends=None)", "many_with(web, painted, bare, *, ends=None)",
         "table_over(web, mating, table)",
     ],
+    "counts.near": [
+        "many_near(web, painting, mating)", "near_of(web, painting, mating)", "near_at(web, painting, mating, number)",
+        "near_number(web, painting, mating, other)",
+    ],
+    "joins.joins": [
+        "beside(one, other)", "is_pairs(web, thing)", "sewn(web, pairs)", "opened(web, ways)", "joined(one, other, joints)",
+        "sewn_painting(web, painting, pairs)", "opened_painting(web, painting, ways)", "sewn_labels(web, labels, pairs)",
+        "opened_labels(web, labels, ways)",
+    ],
+    "joins.laid": [
+        "laid(web, mating, pairs)", "shows_laid(web, mating, pairs, thing)", "rings_made(web, painting, pairs)",
+        "tied_through(web, painting, pairs, end)", "changed(web, painting, mating, pairs)",
+    ],
+    "made.shapes": [
+        "is_shape(thing)", "made_web(shape)", "made_matings(shape)", "made_painting(shape)",
+        "made_labels(shape, *, size, across, down)",
+    ],
+    "keeper.keeper": ["Keeper(web, painting, *, labels=None)"],
+    "words.texts": [
+        "web_text(web)", "read_web(text)", "painting_text(web, painting)", "read_painting(web, text)",
+        "mating_text(web, mating)", "read_mating(web, text)", "labels_text(web, labels)", "read_labels(web, text)",
+        "line_text(web, painting, number)", "deeds_text(web, painting, deeds)", "read_deeds(web, painting, text)",
+    ],
+    "words.desk": ["Desk()"],
+}
+# The methods of each class, in its own body.
+METHODS = {
+    "keeper.keeper": ("Keeper", [
+        "turn(self, mating)", "flip(self, mating, flips)", "bare(self)", "do(self, deed)", "do_all(self, deeds)",
+        "rows_tried(self)", "back(self, *, many=1)", "again(self, *, many=1)", "first(self)", "now(self)", "log(self)",
+        "stood(self, count)", "heir(self, number)", "first_of(self, number)", "heirs_now(self)", "gone_now(self)",
+        "carried_now(self, number)", "twin(self)", "__len__(self)", "__eq__(self, other)", "__str__(self)",
+    ]),
+    "words.desk": ("Desk", [
+        "say(self, line)", "say_all(self, lines)", "web_now(self)", "keeper_now(self)", "counts(self)", "__len__(self)",
+        "__eq__(self, other)",
+    ]),
 }
 VALUES = {
     "webs.webs": {"MOST_POSTS": 60, "HANDS": 4}, "matings.matings": {"MATINGS": 3},
@@ -121,6 +158,7 @@ VALUES = {
     "products.perms": {"MOST_SIZE": 5}, "led.steps": {"MOST_MEANS": 4, "MOST_KIN": 60},
     "led.along": {"MOST_ROW": 60}, "wheels.wheels": {"MOST_CELL": 4, "MOST_BORDER": 3, "MOST_FAR": 10 ** 30},
     "wheels.again": {"MOST_BEATS": 1000}, "counts.tables": {"MOST_HALVES": 4000},
+    "counts.near": {"MOST_NEAR": 400}, "made.shapes": {"SHAPES": ("band", "board", "fan", "klein", "torus", "tube")},
 }
 
 
@@ -143,6 +181,13 @@ class TestInterface(unittest.TestCase):
             defined = [node.name for node in body if isinstance(node, (ast.FunctionDef, ast.ClassDef))]
             for text in told:
                 self.assertEqual(defined.count(text.partition("(")[0]), 1, text)
+
+    def test_methods_stand_in_their_classes(self):
+        for name, (word, told) in METHODS.items():
+            thing = getattr(importlib.import_module("tiewheel." + name), word)
+            for text in told:
+                method = vars(thing)[text.partition("(")[0]]
+                self.assertEqual(method.__name__ + str(inspect.signature(method)), text)
 
     def test_values(self):
         for name, told in VALUES.items():
@@ -187,8 +232,23 @@ class TestFiles(unittest.TestCase):
             for node in ast.parse(path.read_text(encoding="utf-8")).body:
                 kinds = (ast.Expr, ast.ImportFrom, ast.FunctionDef, ast.ClassDef, ast.Assign)
                 self.assertIsInstance(node, kinds, path)
-                if isinstance(node, ast.Assign):
+                if isinstance(node, ast.Assign) and not isinstance(node.value, ast.Dict):
                     self.assertIsInstance(ast.literal_eval(self.computed(node.value)), (int, str, tuple), path)
+
+    def test_tables_of_files_are_only_read(self):
+        for path in self.files():
+            tree = ast.parse(path.read_text(encoding="utf-8"))
+            tables = {node.targets[0].id for node in tree.body if isinstance(node, ast.Assign) and isinstance(node.value, ast.Dict)}
+            functions = {node.name for node in tree.body if isinstance(node, ast.FunctionDef)}
+            for node in ast.walk(tree):
+                for child in ast.iter_child_nodes(node):
+                    if isinstance(child, ast.Name) and child.id in tables and isinstance(child.ctx, ast.Load):
+                        self.assertIsInstance(node, (ast.Subscript, ast.Attribute, ast.Compare), (path, child.lineno))
+                        self.assertIsInstance(getattr(node, "ctx", ast.Load()), ast.Load)
+                        self.assertIn(getattr(node, "attr", "get"), ("get",))
+                if isinstance(node, ast.Assign) and isinstance(node.value, ast.Dict) and node.targets[0].id in tables:
+                    for value in node.value.values:
+                        self.assertTrue(isinstance(value, ast.Constant) or value.id in functions, path)
 
     def computed(self, node):
         """A power of two numbers as the number that it is."""

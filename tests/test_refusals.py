@@ -7,26 +7,30 @@ from itertools import combinations, permutations, product
 
 from plain_counts import plain_is_table
 from plain_deeds import plain_clusters
+from plain_joins import plain_is_pairs
 from plain_led import plain_are_deeds
 from support import (
     ANYTHING, EMPTY, EIGHT, LOOP_AND_ENDS, alike, beside, plain_ends, plain_matings, plain_paintings, plain_strands,
     spoiled, whole_row,
 )
 from tiewheel.clusters import clusters, crossed, flips
-from tiewheel.counts import tables
+from tiewheel.counts import near, tables
 from tiewheel.heirs import deeds, heirs, kept, tracks
+from tiewheel.joins import joins, laid
 from tiewheel.led import along, led, steps
 from tiewheel.lines import lines, ties
+from tiewheel.made import shapes
 from tiewheel.matings import matings, strands
 from tiewheel.paintings import fronts, paintings, rounds
 from tiewheel.products import carried, labels, perms, weights
 from tiewheel.two import bridge, two
 from tiewheel.webs import parts, webs
 from tiewheel.webs.errors import (
-    NoDeeds, NoEnds, NoFlips, NoHand, NoLabels, NoLine, NoMating, NoNumber, NoPainting, NoWeb, TooWide,
+    NoDeeds, NoEnds, NoFlips, NoHand, NoJoin, NoLabels, NoLine, NoMating, NoNumber, NoPainting, NoShape, NoWeb, TooWide,
     WebError,
 )
 from tiewheel.wheels import again, wheels
+from tiewheel.words import texts
 
 WEB = beside(LOOP_AND_ENDS, LOOP_AND_ENDS)
 PAINTING = (0, 3)
@@ -75,6 +79,10 @@ KINDS = {
     "painted_ties": (((1, 3),), NoEnds, None),
     "bare_ties": (((5, 7),), NoEnds, None),
     "table": ((((((1, 3),), ((5, 7),), 2), 3),), NoEnds, None),
+    "pairs": (((1, 5), (3, 7)), NoJoin, None),
+    "openings": ((0, 3), NoJoin, None),
+    "near": (1, NoNumber, "number"),
+    "shape": (("klein", 2, 4), NoShape, None),
 }
 # What is never refused, with one that may be handed in.
 FREE = {"thing": None, "exchanged": True, "with_flips": True}
@@ -114,6 +122,10 @@ RIGHT = {
     "painted_ties": [],
     "bare_ties": [],
     "table": [],
+    "pairs": [],
+    "openings": [(), (0,), (3,), (0, 3)],
+    "near": list(range(2 ** len(plain_clusters(WEB, PAINTING, MATING)))),
+    "shape": [("klein", 4, 2), ("klein", 2, 2)],
 }
 # Of others too much is right to be listed.
 JUDGED = {
@@ -121,6 +133,8 @@ JUDGED = {
     "turns": lambda thing: whole_row((thing,)) and 0 <= thing <= 10 ** 30,
     "deeds": lambda thing: plain_are_deeds(WEB, PAINTING, thing),
     "table": lambda thing: plain_is_table(WEB, thing),
+    "pairs": lambda thing: plain_is_pairs(WEB, thing),
+    "shape": shapes.is_shape,
 }
 
 # Each function, its arguments' kinds; those that it has by name behind a "*"; "thing" is anything.
@@ -181,12 +195,22 @@ FUNCTIONS = (
     (again.painting_behind, "web mating mating painting turns *begin *most=beats"),
     (tables.account_of, "web painting"), (tables.table_of, "web *ends"),
     (tables.many_with, "web painted_ties bare_ties *ends"), (tables.table_over, "web mating table"),
+    (near.many_near, "web painting mating"), (near.near_of, "web painting mating"),
+    (near.near_at, "web painting mating near"), (joins.beside, "web web"), (joins.is_pairs, "web thing"),
+    (joins.sewn, "web pairs"), (joins.opened, "web openings"), (joins.sewn_painting, "web painting pairs"),
+    (joins.opened_painting, "web painting openings"), (joins.sewn_labels, "web labels pairs"),
+    (joins.opened_labels, "web labels openings"), (laid.laid, "web mating pairs"),
+    (laid.shows_laid, "web mating pairs thing"), (laid.rings_made, "web painting pairs"),
+    (laid.changed, "web painting mating pairs"), (shapes.is_shape, "thing"), (shapes.made_web, "shape"),
+    (shapes.made_matings, "shape"), (shapes.made_painting, "shape"), (texts.web_text, "web"),
+    (texts.painting_text, "web painting"), (texts.mating_text, "web mating"), (texts.labels_text, "web labels"),
+    (texts.line_text, "web painting line"), (texts.deeds_text, "web painting deeds"),
 )
 JUDGES = (
     webs.is_web, matings.is_mating, strands.shows_strand, paintings.is_painting, paintings.shows_owned,
     fronts.shows_fronts, lines.shows_line, clusters.shows_chain, flips.is_flips, deeds.is_deed, kept.shows_kept,
     perms.is_perm, labels.is_labels, weights.is_weights, weights.shows_base, two.is_amid, bridge.shows_bridge,
-    led.shows_led, along.are_deeds,
+    led.shows_led, along.are_deeds, joins.is_pairs, laid.shows_laid, shapes.is_shape,
 )
 
 

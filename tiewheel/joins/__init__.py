@@ -1,0 +1,1 @@
+"""Webs beside one another, sewn and opened at their ends; what becomes of strands and lines."""

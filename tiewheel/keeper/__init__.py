@@ -1,0 +1,1 @@
+"""A keeper of a painting: deeds done, taken back, done again."""

@@ -1,0 +1,1 @@
+"""Webs made by shapes, with matings, paintings and labels that fit."""

@@ -1,0 +1,1 @@
+"""Texts written and read, and a desk that answers lines."""
