@@ -101,6 +101,8 @@ class TestLed(unittest.TestCase):
             things[right:] = [None] * (4 - right)
             with self.assertRaises(wrong):
                 shows_led(*things, None)
+        with self.assertRaises(NoPainting):
+            shows_led(EIGHT, ((0,),), None, (1,), None)
 
     def test_sixty_posts(self):
         for web in (LONG, ROUND):

@@ -2,6 +2,7 @@
 
 import unittest
 from random import Random
+from unittest import mock
 
 from plain_counts import (
     plain_account, plain_are_ties, plain_is_table, plain_table, plain_table_over, plain_widths,
@@ -12,6 +13,7 @@ from support import (
     ANYTHING, BOARD, EIGHT, EMPTY, LONG, LOOP_AND_ENDS, ROUND, SMALL_WEBS, STAR, beside, board, plain_ends, plain_matings,
     plain_painted_ends, plain_paintings, random_mating, random_web, spoiled, web_of,
 )
+from tiewheel.counts import tables
 from tiewheel.counts.tables import MOST_HALVES, account_of, many_with, table_of, table_over
 from tiewheel.webs.errors import NoEnds, NoMating, NoPainting, NoWeb, TooWide
 
@@ -140,6 +142,16 @@ class TestTables(unittest.TestCase):
         self.assertEqual(len(table_of(beside(two, *[STAR] * 3))), 18 * 216)
         with self.assertRaises(TooWide):
             table_of(beside(two, two, *[STAR] * 2))
+
+    def test_just_as_many_halves_as_may_come(self):
+        for web in [web for web in WEBS if web[0] > 0]:
+            for ends in told_ends(web)[::2]:
+                wide = max(plain_widths(web, ends))
+                with mock.patch.object(tables, "MOST_HALVES", wide):
+                    self.assertEqual(table_of(web, ends=ends), plain_table(web, ends))
+                with mock.patch.object(tables, "MOST_HALVES", wide - 1):
+                    with self.assertRaises(TooWide):
+                        table_of(web, ends=ends)
 
     def test_no_ends(self):
         for thing in ANYTHING + spoiled((0, 3)) + [(3, 0), (0, 0), (4,), (0, 4)]:

@@ -111,6 +111,28 @@ def counts_from(plan):
     return counts[::-1]
 
 
+def any_painting(plan):
+    """One painting, None where there is none: found without counting how many go on from each state."""
+    cuts = [{0: None}]
+    for met, moves in plan:
+        found = {}
+        for state in list(cuts[-1]):
+            ahead = state & met
+            for row, onward in moves.get(ahead, ()):
+                found[(state ^ ahead) | onward] = (state, row)
+        if len(found) > MOST_STATES:
+            raise TooWide(MOST_STATES)
+        cuts.append(found)
+    if not cuts[-1]:
+        return None
+    ways = []
+    state = 0
+    for cut in cuts[:0:-1]:
+        state, row = cut[state]
+        ways.extend(row)
+    return tuple(sorted(ways))
+
+
 def how_many(counts):
     """How many paintings there are in all, by what `counts_from` tells."""
     return counts[0][0]

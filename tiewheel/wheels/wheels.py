@@ -2,7 +2,7 @@
 
 from tiewheel.matings.matings import mate_bits, need_mating
 from tiewheel.matings.strands import is_round, strand_from, strand_rows
-from tiewheel.paintings.fronts import counts_from, how_many, numbered, plan_of
+from tiewheel.paintings.fronts import any_painting, plan_of
 from tiewheel.paintings.paintings import is_marked, need_painting
 from tiewheel.webs.errors import NoNumber
 from tiewheel.webs.helper import is_rising_below, is_whole
@@ -143,6 +143,4 @@ def by_turns(web, first, second, *, painted=()):
     if not is_rising_below(painted, len(rims)):
         raise NoNumber(painted)
     ends = [end for number, row in enumerate(rims) for end in (row[::2] if number in painted else row[1::2])]
-    plan = plan_of(web, tuple(sorted(ends)))
-    counts = counts_from(plan)
-    return numbered(plan, counts, 0) if how_many(counts) > 0 else None
+    return any_painting(plan_of(web, tuple(sorted(ends))))
