@@ -14,7 +14,7 @@ from support import (
 from tiewheel.clusters.flips import turned
 from tiewheel.joins.joins import sewn_labels, sewn_painting
 from tiewheel.joins.laid import changed, laid, rings_made, shows_laid, tied_through
-from tiewheel.webs.errors import NoEnds, NoJoin, NoMating, NoPainting, NoWeb
+from tiewheel.webs.errors import NoEnds, NoHand, NoJoin, NoMating, NoPainting, NoWeb
 
 WEBS = SMALL_WEBS + MIDDLE_WEBS + [LONG, board(6, 10)]
 
@@ -143,12 +143,75 @@ class TestLines(unittest.TestCase):
                         tied_through(web, painting, pairs, hand)
         self.assertGreater(longer, 50)
 
-    def test_no_end(self):
-        for thing in ANYTHING + [4, -4, 240]:
-            if not (type(thing) is int and thing in (2, 3)):
-                with self.assertRaises(NoEnds):
-                    tied_through(STAR, (0, 1), ((0, 1),), thing)
+    def assert_no_hand(self, web, painting, pairs, thing):
+        with self.assertRaises(NoHand) as caught:
+            tied_through(web, painting, pairs, thing)
+        self.assertIs(caught.exception.__class__, NoHand)
+        self.assertIs(caught.exception.hand, thing)
+
+    def assert_no_end(self, web, painting, pairs, hand):
+        with self.assertRaises(NoEnds) as caught:
+            tied_through(web, painting, pairs, hand)
+        self.assertIs(caught.exception.__class__, NoEnds)
+
+    def test_no_hand(self):
+        for web, painting, every in (
+            (EMPTY, (), ((),)), (STAR, (0, 1), ((), ((0, 1),), ((0, 1), (2, 3)))), (EIGHT, (0,), ((),)),
+            (LOOP_AND_ENDS, (0,), ((), ((1, 3),))),
+        ):
+            many = 4 * web[0]
+            for pairs in every:
+                for thing in ANYTHING + [many, many + 1, -many, -1, 10 ** 39, -10 ** 39, "1", [2], (2,), {2: 3}]:
+                    if not (type(thing) is int and 0 <= thing < many):
+                        self.assert_no_hand(web, painting, pairs, thing)
+
+    def test_no_hand_no_end_and_an_end_in_a_pair_are_told_apart(self):
+        met = {"hand": 0, "end": 0, "pair": 0, "told": 0}
+        for web, painting, pairs in samples(2):
+            ends, paired = plain_ends(web), {end for pair in pairs for end in pair}
+            for hand in range(-2, 4 * web[0] + 2):
+                if not 0 <= hand < 4 * web[0]:
+                    self.assert_no_hand(web, painting, pairs, hand)
+                    met["hand"] += 1
+                elif hand not in ends:
+                    self.assert_no_end(web, painting, pairs, hand)
+                    met["end"] += 1
+                elif hand in paired:
+                    self.assert_no_end(web, painting, pairs, hand)
+                    met["pair"] += 1
+                else:
+                    self.assertIn(tied_through(web, painting, pairs, hand), set(ends) - paired)
+                    met["told"] += 1
+        self.assertTrue(all(many > 20 for many in met.values()), met)
+
+    def test_no_hand_no_end_by_hand(self):
+        self.assert_no_hand(EMPTY, (), (), 0)
+        self.assert_no_hand(STAR, (0, 1), (), 4)
+        self.assert_no_hand(STAR, (0, 1), (), None)
+        self.assert_no_end(STAR, (0, 1), ((0, 1),), 0)
+        self.assert_no_end(STAR, (0, 1), ((0, 1),), 1)
+        self.assert_no_end(EIGHT, (0,), (), 0)
+        self.assert_no_end(LOOP_AND_ENDS, (0,), (), 2)
+        self.assert_no_end(LOOP_AND_ENDS, (0,), ((1, 3),), 2)
+        self.assert_no_end(LOOP_AND_ENDS, (0,), ((1, 3),), 3)
         self.assertEqual(tied_through(STAR, (0, 1), ((0, 1),), 2), 3)
+        self.assertEqual(tied_through(LOOP_AND_ENDS, (0,), (), 1), 3)
+
+    def test_what_goes_ahead_of_no_hand_and_no_end(self):
+        # No hand; a hand that is no end; an end that is in a pair of the pairs below.
+        for end in (None, 12, 0, 1):
+            with self.assertRaises(NoWeb):
+                tied_through((1, ()), (0,), ((1, 3),), end)
+            with self.assertRaises(NoPainting):
+                tied_through(LOOP_AND_ENDS, (0, 1), ((1, 3),), end)
+            with self.assertRaises(NoJoin):
+                tied_through(LOOP_AND_ENDS, (0,), ((3, 1),), end)
+            with self.assertRaises(NoJoin):
+                tied_through(LOOP_AND_ENDS, (0,), ((0, 1),), end)
+        for end in (None, 4, 0, 2):
+            # These are pairs, but of unlike ends: hand 2 is bare, hand 0 painted.
+            with self.assertRaises(NoJoin):
+                tied_through(STAR, (0, 1), ((0, 2),), end)
 
     def test_products_of_ties_laid(self):
         laid_behind = 0

@@ -80,6 +80,7 @@ KINDS = {
     "bare_ties": (((5, 7),), NoEnds, None),
     "table": ((((((1, 3),), ((5, 7),), 2), 3),), NoEnds, None),
     "pairs": (((1, 5), (3, 7)), NoJoin, None),
+    "pair": (((1, 3),), NoJoin, None),
     "openings": ((0, 3), NoJoin, None),
     "near": (1, NoNumber, "number"),
     "shape": (("klein", 2, 4), NoShape, None),
@@ -123,6 +124,7 @@ RIGHT = {
     "bare_ties": [],
     "table": [],
     "pairs": [],
+    "pair": [],
     "openings": [(), (0,), (3,), (0, 3)],
     "near": list(range(2 ** len(plain_clusters(WEB, PAINTING, MATING)))),
     "shape": [("klein", 4, 2), ("klein", 2, 2)],
@@ -134,6 +136,7 @@ JUDGED = {
     "deeds": lambda thing: plain_are_deeds(WEB, PAINTING, thing),
     "table": lambda thing: plain_is_table(WEB, thing),
     "pairs": lambda thing: plain_is_pairs(WEB, thing),
+    "pair": lambda thing: plain_is_pairs(WEB, thing),
     "shape": shapes.is_shape,
 }
 
@@ -201,8 +204,9 @@ FUNCTIONS = (
     (joins.opened_painting, "web painting openings"), (joins.sewn_labels, "web labels pairs"),
     (joins.opened_labels, "web labels openings"), (laid.laid, "web mating pairs"),
     (laid.shows_laid, "web mating pairs thing"), (laid.rings_made, "web painting pairs"),
-    (laid.changed, "web painting mating pairs"), (shapes.is_shape, "thing"), (shapes.made_web, "shape"),
-    (shapes.made_matings, "shape"), (shapes.made_painting, "shape"), (texts.web_text, "web"),
+    (laid.tied_through, "web painting pair end"), (laid.changed, "web painting mating pairs"),
+    (shapes.is_shape, "thing"), (shapes.made_web, "shape"), (shapes.made_matings, "shape"),
+    (shapes.made_painting, "shape"), (texts.web_text, "web"),
     (texts.painting_text, "web painting"), (texts.mating_text, "web mating"), (texts.labels_text, "web labels"),
     (texts.line_text, "web painting line"), (texts.deeds_text, "web painting deeds"),
 )
@@ -355,7 +359,7 @@ class TestEmptyWeb(unittest.TestCase):
         for function, things in (
             (webs.across, (0,)), (webs.way_of, (0,)), (matings.mate, ((), 0)), (strands.strand_at, ((), 0)),
             (strands.over, ((), 0)), (paintings.is_painted, ((), 0)), (lines.line_at, ((), 0)),
-            (ties.tied, ((), 0)), (ties.tie_at, ((), 0)),
+            (ties.tied, ((), 0)), (ties.tie_at, ((), 0)), (laid.tied_through, ((), (), 0)),
         ):
             with self.assertRaises(NoHand):
                 function(EMPTY, *things)

@@ -7,8 +7,8 @@ from tiewheel.matings.matings import mate_bits, need_mating
 from tiewheel.matings.strands import strand_from, strand_rows, strand_table
 from tiewheel.paintings.paintings import need_painting, own_row
 from tiewheel.webs.errors import NoEnds
-from tiewheel.webs.helper import are_below, is_below, is_row_of_two
-from tiewheel.webs.webs import HANDS, need_web
+from tiewheel.webs.helper import are_below, is_row_of_two
+from tiewheel.webs.webs import HANDS, need_end, need_web
 
 BORDER = "border"
 CELL = "cell"
@@ -86,8 +86,9 @@ def tied_through(web, painting, pairs, end):
     """The other end of the sewn web's tie from an end in no pair."""
     beyond, own = needed_ties(web, painting, pairs)
     paired = partners(pairs)
-    if not is_below(end, len(beyond)) or beyond[end] is not None or end in paired:
-        raise NoEnds("no end in no pair")
+    need_end(beyond, end)
+    if end in paired:
+        raise NoEnds("the end is in a pair")
     return row_over(beyond, mate_bits(own), paired, end)[-1]
 
 
